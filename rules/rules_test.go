@@ -1,0 +1,268 @@
+// Package rules tests what the language's rules and the map of layers ask of all packages.
+package rules
+
+import (
+	"bytes"
+	"go/ast"
+	"go/format"
+	"go/parser"
+	"go/token"
+	"os"
+	"path/filepath"
+	"slices"
+	"strconv"
+	"strings"
+	"testing"
+)
+
+// layers are the program's packages, from the lowest on: one may import those ahead of it. They are listed, and not looked for, since other folders may be laid beside them for tests.
+var layers = []string{
+	"api", "gate", "crc", "codec", "frame", "disk", "wal", "batch", "seglog", "prod", "epochs", "net", "raft",
+	"image", "replica", "txn", "group", "wire", "node", "client", "cluster", "model", "play",
+}
+
+// library is what may be imported; where names are listed, only these may be used.
+var library = map[string][]string{
+	"bytes": nil, "cmp": nil, "container/heap": nil, "errors": nil, "iter": {"Seq", "Seq2"}, "maps": nil, "math": nil,
+	"math/bits": nil, "slices": nil, "sort": nil, "strconv": nil, "strings": nil,
+	"sync": {"Mutex", "RWMutex", "WaitGroup", "Once"}, "sync/atomic": nil, "unicode": nil, "unicode/utf8": nil,
+}
+
+const maxLines = 60
+
+// source is a file of the program.
+type source struct {
+	layer, name string
+	text        []byte
+	files       *token.FileSet
+	tree        *ast.File
+}
+
+// sources are the files of all layers, without tests.
+func sources(t *testing.T) []source {
+	t.Helper()
+	var all []source
+	for _, layer := range layers {
+		found, err := filepath.Glob(filepath.Join("..", layer, "*.go"))
+		if err != nil || len(found) == 0 {
+			t.Fatalf("package %s: no files (%v)", layer, err)
+		}
+		for _, name := range found {
+			if !strings.HasSuffix(name, "_test.go") {
+				all = append(all, read(t, layer, name))
+			}
+		}
+	}
+	return all
+}
+
+func read(t *testing.T, layer, name string) source {
+	t.Helper()
+	text, err := os.ReadFile(name)
+	if err != nil {
+		t.Fatal(err)
+	}
+	files := token.NewFileSet()
+	tree, err := parser.ParseFile(files, name, text, parser.ParseComments)
+	if err != nil {
+		t.Fatal(err)
+	}
+	return source{layer, name, text, files, tree}
+}
+
+func TestImports(t *testing.T) {
+	for _, s := range sources(t) {
+		for _, i := range s.tree.Imports {
+			path, err := strconv.Unquote(i.Path.Value)
+			if err != nil {
+				t.Fatal(err)
+			}
+			if i.Name != nil {
+				t.Errorf("%s: %s is imported by another name", s.name, path)
+			}
+			if own, ok := strings.CutPrefix(path, "penstock/"); ok {
+				if at := slices.Index(layers, own); at < 0 || at >= slices.Index(layers, s.layer) {
+					t.Errorf("%s: %s is not below it", s.name, path)
+				}
+				continue
+			}
+			names, ok := library[path]
+			if !ok {
+				t.Errorf("%s: %s may not be imported", s.name, path)
+			}
+			if names != nil {
+				onlyNames(t, s, path, names)
+			}
+		}
+	}
+}
+
+// onlyNames tells of uses of a package beside the names that may be used.
+func onlyNames(t *testing.T, s source, path string, names []string) {
+	t.Helper()
+	ast.Inspect(s.tree, func(n ast.Node) bool {
+		x, ok := n.(*ast.SelectorExpr)
+		if !ok {
+			return true
+		}
+		if of, ok := x.X.(*ast.Ident); ok && of.Name == path && of.Obj == nil && !slices.Contains(names, x.Sel.Name) {
+			t.Errorf("%s: %s.%s may not be used", s.name, path, x.Sel.Name)
+		}
+		return true
+	})
+}
+
+func TestNoPrintingAndNoMarksForTheCompiler(t *testing.T) {
+	for _, s := range sources(t) {
+		for _, group := range s.tree.Comments {
+			for _, c := range group.List {
+				if strings.HasPrefix(c.Text, "//go:") || strings.HasPrefix(c.Text, "// +build") {
+					t.Errorf("%s: %s", s.name, c.Text)
+				}
+			}
+		}
+		ast.Inspect(s.tree, func(n ast.Node) bool {
+			call, ok := n.(*ast.CallExpr)
+			if !ok {
+				return true
+			}
+			if f, ok := call.Fun.(*ast.Ident); ok && f.Obj == nil && (f.Name == "print" || f.Name == "println") {
+				t.Errorf("%s: prints", s.name)
+			}
+			return true
+		})
+	}
+}
+
+func TestLayoutAndLength(t *testing.T) {
+	for _, s := range sources(t) {
+		laid, err := format.Source(s.text)
+		if err != nil || !bytes.Equal(laid, s.text) {
+			t.Errorf("%s: not in gofmt's layout (%v)", s.name, err)
+		}
+		for _, d := range s.tree.Decls {
+			f, ok := d.(*ast.FuncDecl)
+			if !ok {
+				continue
+			}
+			lines := s.files.Position(f.End()).Line - s.files.Position(f.Pos()).Line + 1
+			if lines > maxLines {
+				t.Errorf("%s: %s has %d lines", s.name, f.Name.Name, lines)
+			}
+		}
+	}
+}
+
+func TestOnlyGoFiles(t *testing.T) {
+	for _, layer := range layers {
+		found, err := os.ReadDir(filepath.Join("..", layer))
+		if err != nil {
+			t.Fatal(err)
+		}
+		for _, f := range found {
+			if f.IsDir() || !strings.HasSuffix(f.Name(), ".go") {
+				t.Errorf("%s/%s: not a Go file", layer, f.Name())
+			}
+		}
+	}
+}
+
+// TestPackageVariables: each has a value that is written out, and is no map, no function and nothing that a call makes, but errors.New.
+func TestPackageVariables(t *testing.T) {
+	for _, s := range sources(t) {
+		for _, d := range s.tree.Decls {
+			g, ok := d.(*ast.GenDecl)
+			if !ok || g.Tok != token.VAR {
+				continue
+			}
+			for _, spec := range g.Specs {
+				v := spec.(*ast.ValueSpec)
+				if len(v.Values) != len(v.Names) {
+					t.Errorf("%s: %s has no value of its own", s.name, v.Names[0].Name)
+				}
+				for i, value := range v.Values {
+					if !writtenOut(value) {
+						t.Errorf("%s: the value of %s isn't written out", s.name, v.Names[i].Name)
+					}
+				}
+			}
+		}
+	}
+}
+
+func writtenOut(value ast.Expr) bool {
+	if call, ok := value.(*ast.CallExpr); ok {
+		f, ok := call.Fun.(*ast.SelectorExpr)
+		if !ok || f.Sel.Name != "New" || len(call.Args) != 1 {
+			return false
+		}
+		of, ok := f.X.(*ast.Ident)
+		_, text := call.Args[0].(*ast.BasicLit)
+		return ok && of.Name == "errors" && text
+	}
+	fine := true
+	ast.Inspect(value, func(n ast.Node) bool {
+		switch x := n.(type) {
+		case *ast.CallExpr, *ast.FuncLit, *ast.MapType:
+			fine = false
+		case *ast.UnaryExpr:
+			fine = fine && x.Op != token.AND
+		case *ast.BasicLit:
+			fine = fine && x.Kind != token.FLOAT && x.Kind != token.IMAG
+		}
+		return true
+	})
+	return fine
+}
+
+// TestWaysOfStage1: what the structs of gate and crc are made of.
+func TestWaysOfStage1(t *testing.T) {
+	want := map[string][]string{
+		"gate.Counter": {"atomic.Uint64"},
+		"gate.Once":    {"sync.Once"},
+		"gate.Marks":   {"array"},
+		"crc.Table":    {"sync.Once", "array"},
+	}
+	for _, s := range sources(t) {
+		ast.Inspect(s.tree, func(n ast.Node) bool {
+			spec, ok := n.(*ast.TypeSpec)
+			if !ok {
+				return true
+			}
+			name := s.layer + "." + spec.Name.Name
+			made := madeOf(spec)
+			for _, way := range want[name] {
+				if !slices.Contains(made, way) {
+					t.Errorf("%s has no %s", name, way)
+				}
+			}
+			delete(want, name)
+			return true
+		})
+	}
+	for name := range want {
+		t.Errorf("there is no %s", name)
+	}
+}
+
+// madeOf are the kinds of a struct's fields, as far as a stage asks for them.
+func madeOf(spec *ast.TypeSpec) []string {
+	var kinds []string
+	fields, ok := spec.Type.(*ast.StructType)
+	if !ok {
+		return nil
+	}
+	for _, f := range fields.Fields.List {
+		switch x := f.Type.(type) {
+		case *ast.ArrayType:
+			if x.Len != nil {
+				kinds = append(kinds, "array")
+			}
+		case *ast.SelectorExpr:
+			if of, ok := x.X.(*ast.Ident); ok {
+				kinds = append(kinds, of.Name+"."+x.Sel.Name)
+			}
+		}
+	}
+	return kinds
+}
