@@ -215,13 +215,14 @@ func writtenOut(value ast.Expr) bool {
 	return fine
 }
 
-// TestWaysOfStage1: what the structs of gate and crc are made of.
-func TestWaysOfStage1(t *testing.T) {
+// TestWaysOfStructs: what the structs of stages 1 and 3 are made of.
+func TestWaysOfStructs(t *testing.T) {
 	want := map[string][]string{
 		"gate.Counter": {"atomic.Uint64"},
 		"gate.Once":    {"sync.Once"},
 		"gate.Marks":   {"array"},
 		"crc.Table":    {"sync.Once", "array"},
+		"disk.Disk":    {"map"},
 	}
 	for _, s := range sources(t) {
 		ast.Inspect(s.tree, func(n ast.Node) bool {
@@ -258,6 +259,8 @@ func madeOf(spec *ast.TypeSpec) []string {
 			if x.Len != nil {
 				kinds = append(kinds, "array")
 			}
+		case *ast.MapType:
+			kinds = append(kinds, "map")
 		case *ast.SelectorExpr:
 			if of, ok := x.X.(*ast.Ident); ok {
 				kinds = append(kinds, of.Name+"."+x.Sel.Name)
@@ -265,4 +268,33 @@ func madeOf(spec *ast.TypeSpec) []string {
 		}
 	}
 	return kinds
+}
+
+// TestWaysOfDisk: files are deleted from the map that keeps them, and it is ranged over for their names.
+func TestWaysOfDisk(t *testing.T) {
+	deleted, ranged := false, false
+	for _, s := range sources(t) {
+		if s.layer != "disk" {
+			continue
+		}
+		ast.Inspect(s.tree, func(n ast.Node) bool {
+			switch x := n.(type) {
+			case *ast.CallExpr:
+				f, ok := x.Fun.(*ast.Ident)
+				deleted = deleted || ok && f.Name == "delete" && isFiles(x.Args[0])
+			case *ast.RangeStmt:
+				ranged = ranged || isFiles(x.X)
+			}
+			return true
+		})
+	}
+	if !deleted || !ranged {
+		t.Errorf("deleted %v, ranged over %v", deleted, ranged)
+	}
+}
+
+// isFiles tells whether that is a disk's map of files.
+func isFiles(e ast.Expr) bool {
+	x, ok := e.(*ast.SelectorExpr)
+	return ok && x.Sel.Name == "files"
 }
