@@ -298,3 +298,34 @@ func isFiles(e ast.Expr) bool {
 	x, ok := e.(*ast.SelectorExpr)
 	return ok && x.Sel.Name == "files"
 }
+
+// TestWaysOfBatch: the values that Decode takes are counted by a range over a number.
+func TestWaysOfBatch(t *testing.T) {
+	counted := false
+	for _, s := range sources(t) {
+		if s.layer != "batch" {
+			continue
+		}
+		ast.Inspect(s.tree, func(n ast.Node) bool {
+			if f, ok := n.(*ast.FuncDecl); ok {
+				return f.Name.Name == "Decode"
+			}
+			x, ok := n.(*ast.RangeStmt)
+			counted = counted || ok && isNumber(x.X)
+			return true
+		})
+	}
+	if !counted {
+		t.Error("nothing is counted by a range over a number")
+	}
+}
+
+// isNumber tells whether that is made an int on the spot, as far as the text shows it.
+func isNumber(e ast.Expr) bool {
+	x, ok := e.(*ast.CallExpr)
+	if !ok {
+		return false
+	}
+	f, ok := x.Fun.(*ast.Ident)
+	return ok && f.Name == "int"
+}
