@@ -329,3 +329,43 @@ func isNumber(e ast.Expr) bool {
 	f, ok := x.Fun.(*ast.Ident)
 	return ok && f.Name == "int"
 }
+
+// TestWaysOfSeglog: a file that isn't the log's is passed by a label, from within a range over its name.
+func TestWaysOfSeglog(t *testing.T) {
+	passed := false
+	for _, s := range sources(t) {
+		if s.layer != "seglog" {
+			continue
+		}
+		ast.Inspect(s.tree, func(n ast.Node) bool {
+			x, ok := n.(*ast.LabeledStmt)
+			passed = passed || ok && passesFromWithin(x)
+			return true
+		})
+	}
+	if !passed {
+		t.Error("no label is gone on at from within an inner range")
+	}
+}
+
+// passesFromWithin tells whether a label stands ahead of a range, and is gone on at from within another one inside it.
+func passesFromWithin(label *ast.LabeledStmt) bool {
+	outer, ok := label.Stmt.(*ast.RangeStmt)
+	if !ok {
+		return false
+	}
+	passes := false
+	ast.Inspect(outer.Body, func(n ast.Node) bool {
+		inner, ok := n.(*ast.RangeStmt)
+		if !ok {
+			return true
+		}
+		ast.Inspect(inner.Body, func(n ast.Node) bool {
+			x, ok := n.(*ast.BranchStmt)
+			passes = passes || ok && x.Tok == token.CONTINUE && x.Label != nil && x.Label.Name == label.Label.Name
+			return true
+		})
+		return true
+	})
+	return passes
+}
