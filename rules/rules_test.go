@@ -215,7 +215,7 @@ func writtenOut(value ast.Expr) bool {
 	return fine
 }
 
-// TestWaysOfStructs: what the structs of stages 1 and 3 are made of.
+// TestWaysOfStructs: what the structs of stages 1, 3 and 6 are made of.
 func TestWaysOfStructs(t *testing.T) {
 	want := map[string][]string{
 		"gate.Counter": {"atomic.Uint64"},
@@ -223,6 +223,7 @@ func TestWaysOfStructs(t *testing.T) {
 		"gate.Marks":   {"array"},
 		"crc.Table":    {"sync.Once", "array"},
 		"disk.Disk":    {"map"},
+		"prod.Table":   {"map"},
 	}
 	for _, s := range sources(t) {
 		ast.Inspect(s.tree, func(n ast.Node) bool {
@@ -368,4 +369,81 @@ func passesFromWithin(label *ast.LabeledStmt) bool {
 		return true
 	})
 	return passes
+}
+
+// TestWaysOfProd: a batch is known again by a field that is a struct, and is compared as a whole.
+func TestWaysOfProd(t *testing.T) {
+	var found []source
+	for _, s := range sources(t) {
+		if s.layer == "prod" {
+			found = append(found, s)
+		}
+	}
+	fields := structFields(found)
+	compared := false
+	for _, s := range found {
+		ast.Inspect(s.tree, func(n ast.Node) bool {
+			x, ok := n.(*ast.BinaryExpr)
+			if !ok || x.Op != token.EQL {
+				return true
+			}
+			side, ok := x.X.(*ast.SelectorExpr)
+			compared = compared || ok && slices.Contains(fields, side.Sel.Name)
+			return true
+		})
+	}
+	if !compared {
+		t.Error("no struct is compared")
+	}
+}
+
+// structFields are the names of fields that are structs of the same package.
+func structFields(found []source) []string {
+	structs := map[string]*ast.StructType{}
+	for _, s := range found {
+		ast.Inspect(s.tree, func(n ast.Node) bool {
+			if spec, ok := n.(*ast.TypeSpec); ok {
+				if fields, ok := spec.Type.(*ast.StructType); ok {
+					structs[spec.Name.Name] = fields
+				}
+			}
+			return true
+		})
+	}
+	var names []string
+	for _, fields := range structs {
+		for _, f := range fields.Fields.List {
+			if of, ok := f.Type.(*ast.Ident); !ok || structs[of.Name] == nil {
+				continue
+			}
+			for _, n := range f.Names {
+				names = append(names, n.Name)
+			}
+		}
+	}
+	return names
+}
+
+// TestWaysOfEpochs: All answers a closure.
+func TestWaysOfEpochs(t *testing.T) {
+	closure := false
+	for _, s := range sources(t) {
+		if s.layer != "epochs" {
+			continue
+		}
+		ast.Inspect(s.tree, func(n ast.Node) bool {
+			if f, ok := n.(*ast.FuncDecl); ok {
+				return f.Name.Name == "All"
+			}
+			x, ok := n.(*ast.ReturnStmt)
+			if ok && len(x.Results) == 1 {
+				_, made := x.Results[0].(*ast.FuncLit)
+				closure = closure || made
+			}
+			return true
+		})
+	}
+	if !closure {
+		t.Error("All answers no closure")
+	}
 }
