@@ -215,7 +215,7 @@ func writtenOut(value ast.Expr) bool {
 	return fine
 }
 
-// TestWaysOfStructs: what the structs of stages 1, 3 and 6 are made of.
+// TestWaysOfStructs: what the structs of stages 1, 3, 6 and 7 are made of.
 func TestWaysOfStructs(t *testing.T) {
 	want := map[string][]string{
 		"gate.Counter": {"atomic.Uint64"},
@@ -224,6 +224,7 @@ func TestWaysOfStructs(t *testing.T) {
 		"crc.Table":    {"sync.Once", "array"},
 		"disk.Disk":    {"map"},
 		"prod.Table":   {"map"},
+		"net.Net":      {"map", "generic"},
 	}
 	for _, s := range sources(t) {
 		ast.Inspect(s.tree, func(n ast.Node) bool {
@@ -262,6 +263,8 @@ func madeOf(spec *ast.TypeSpec) []string {
 			}
 		case *ast.MapType:
 			kinds = append(kinds, "map")
+		case *ast.IndexExpr:
+			kinds = append(kinds, "generic")
 		case *ast.SelectorExpr:
 			if of, ok := x.X.(*ast.Ident); ok {
 				kinds = append(kinds, of.Name+"."+x.Sel.Name)
@@ -446,4 +449,46 @@ func TestWaysOfEpochs(t *testing.T) {
 	if !closure {
 		t.Error("All answers no closure")
 	}
+}
+
+// TestWaysOfNet: the pairs that are cut stand in a map whose keys are arrays, and that map is cleared.
+func TestWaysOfNet(t *testing.T) {
+	var arrays, cleared []string
+	keys := map[string]string{} // of each field that is a map, the name of its keys' type
+	for _, s := range sources(t) {
+		if s.layer != "net" {
+			continue
+		}
+		ast.Inspect(s.tree, func(n ast.Node) bool {
+			switch x := n.(type) {
+			case *ast.TypeSpec:
+				if of, ok := x.Type.(*ast.ArrayType); ok && of.Len != nil {
+					arrays = append(arrays, x.Name.Name)
+				}
+			case *ast.Field:
+				if of, ok := x.Type.(*ast.MapType); ok && len(x.Names) == 1 {
+					keys[x.Names[0].Name] = nameOf(of.Key)
+				}
+			case *ast.CallExpr:
+				if nameOf(x.Fun) == "clear" {
+					cleared = append(cleared, nameOf(x.Args[0]))
+				}
+			}
+			return true
+		})
+	}
+	if len(cleared) != 1 || !slices.Contains(arrays, keys[cleared[0]]) {
+		t.Errorf("cleared: %q; keys of maps: %q; arrays: %q", cleared, keys, arrays)
+	}
+}
+
+// nameOf is the last name of what stands there, if it is one.
+func nameOf(e ast.Expr) string {
+	switch x := e.(type) {
+	case *ast.Ident:
+		return x.Name
+	case *ast.SelectorExpr:
+		return x.Sel.Name
+	}
+	return ""
 }
