@@ -215,7 +215,7 @@ func writtenOut(value ast.Expr) bool {
 	return fine
 }
 
-// TestWaysOfStructs: what the structs of stages 1, 3, 6 and 7 are made of.
+// TestWaysOfStructs: what the structs of stages 1, 3, 6, 7 and 8 are made of.
 func TestWaysOfStructs(t *testing.T) {
 	want := map[string][]string{
 		"gate.Counter": {"atomic.Uint64"},
@@ -225,6 +225,7 @@ func TestWaysOfStructs(t *testing.T) {
 		"disk.Disk":    {"map"},
 		"prod.Table":   {"map"},
 		"net.Net":      {"map", "generic"},
+		"raft.Raft":    {"map"},
 	}
 	for _, s := range sources(t) {
 		ast.Inspect(s.tree, func(n ast.Node) bool {
@@ -479,6 +480,31 @@ func TestWaysOfNet(t *testing.T) {
 	}
 	if len(cleared) != 1 || !slices.Contains(arrays, keys[cleared[0]]) {
 		t.Errorf("cleared: %q; keys of maps: %q; arrays: %q", cleared, keys, arrays)
+	}
+}
+
+// TestWaysOfRaft: votes stand in the map, and nodes are gone through by a range over their number.
+func TestWaysOfRaft(t *testing.T) {
+	voted, gone := false, 0
+	for _, s := range sources(t) {
+		if s.layer != "raft" {
+			continue
+		}
+		ast.Inspect(s.tree, func(n ast.Node) bool {
+			switch x := n.(type) {
+			case *ast.Field:
+				_, ok := x.Type.(*ast.MapType)
+				voted = voted || ok && len(x.Names) == 1 && x.Names[0].Name == "votes"
+			case *ast.RangeStmt:
+				if nameOf(x.X) == "n" {
+					gone++
+				}
+			}
+			return true
+		})
+	}
+	if !voted || gone == 0 {
+		t.Errorf("votes in a map: %v, ranges over the number of nodes: %d", voted, gone)
 	}
 }
 
