@@ -508,6 +508,27 @@ func TestWaysOfRaft(t *testing.T) {
 	}
 }
 
+// TestWaysOfImage: whom a list lets go is told by a closure.
+func TestWaysOfImage(t *testing.T) {
+	told := false
+	for _, s := range sources(t) {
+		if s.layer != "image" {
+			continue
+		}
+		ast.Inspect(s.tree, func(n ast.Node) bool {
+			x, ok := n.(*ast.CallExpr)
+			if ok && nameOf(x.Fun) == "DeleteFunc" && len(x.Args) == 2 {
+				_, made := x.Args[1].(*ast.FuncLit)
+				told = told || made
+			}
+			return true
+		})
+	}
+	if !told {
+		t.Error("no list lets anybody go by a closure")
+	}
+}
+
 // nameOf is the last name of what stands there, if it is one.
 func nameOf(e ast.Expr) string {
 	switch x := e.(type) {
