@@ -4,88 +4,121 @@ package replica
 import (
 	"penstock/api"
 	"penstock/disk"
+	"penstock/epochs"
+	"penstock/prod"
+	"penstock/seglog"
+)
+
+const (
+	none     = -1               // no epoch, and no offset
+	maxParts = api.MaxParts + 2 // with the transactions' and the groups'
 )
 
 // Replica is a partition on a node.
-type Replica struct{}
+type Replica struct {
+	part, me int
+	log      *seglog.Log
+	known    *prod.Table   // by all batches of the log
+	begins   *epochs.Cache // by all batches of the log
+	last     int           // the epoch of the last batch
+	high     int           // the high watermark
+	settled  *prod.Table   // by the batches that end up to the high watermark: the log is never cut there, so it only grows
+	passed   int           // where the last one of these ends
+	epoch    int
+	leads    bool
+	office   // of one that leads
+}
 
 // Open opens the partition of a number on a node's disk: what its log holds is known; it leads nothing, and follows nobody.
 func Open(d *disk.Disk, name string, part, me int) (*Replica, api.Errno) {
-	return nil, 0
+	if d == nil {
+		return nil, api.ErrState
+	}
+	if part < 0 || part >= maxParts || !isNode(me) {
+		return nil, api.ErrArg
+	}
+	log, e := seglog.Open(d, name)
+	if e != api.OK {
+		return nil, e
+	}
+	// What the log says from now on must not be lost by the next break.
+	if e := log.Flush(); e != api.OK {
+		return nil, e
+	}
+	start := log.Start()
+	r := &Replica{part: part, me: me, log: log, high: start, settled: prod.New(), passed: start, epoch: none}
+	r.learn()
+	return r, api.OK
 }
 
 // Lead lets the replica lead from an epoch on, with these in sync.
 func (r *Replica) Lead(epoch int, isr []int) api.Errno {
-	return 0
+	if e := r.enter(epoch); e != api.OK {
+		return e
+	}
+	r.leads = true
+	r.office = office{isr: nodesOf(isr), beginning: r.log.End()}
+	r.rise()
+	return api.OK
 }
 
 // Follow lets the replica follow from an epoch on.
 func (r *Replica) Follow(epoch int) api.Errno {
-	return 0
+	if e := r.enter(epoch); e != api.OK {
+		return e
+	}
+	r.leads = false
+	r.office = office{}
+	return api.OK
 }
 
 // Sync says who is in sync in this epoch.
 func (r *Replica) Sync(epoch int, isr []int) api.Errno {
-	return 0
-}
-
-// Produce lays a batch behind the leader's log, if it may come next; one of the last ones again isn't laid: its offset is told. A marker of a producer that has gone on is none.
-func (r *Replica) Produce(b api.Batch) (int, api.Errno) {
-	return 0, 0
-}
-
-// Need is what a follower asks.
-func (r *Replica) Need() (api.FetchReq, bool) {
-	return api.FetchReq{}, false
-}
-
-// Fetch answers a follower.
-func (r *Replica) Fetch(q api.FetchReq) api.FetchReply {
-	return api.FetchReply{}
-}
-
-// Accept takes a leader's answer: batches are laid behind the log; or what diverges is taken away.
-func (r *Replica) Accept(a api.FetchReply) api.Errno {
-	return 0
-}
-
-// Tick lets the leader's clock go on.
-func (r *Replica) Tick() {}
-
-// Want is who should be in sync, if it is not who is: those who have come to the high watermark in this epoch come in, of replicas; those who are slow go.
-func (r *Replica) Want(replicas []int) ([]int, bool) {
-	return nil, false
-}
-
-// Asked says whom the leader has asked to be in sync: they count from now on, until it is told who is.
-func (r *Replica) Asked(list []int) {}
-
-// Marks answers where the log begins, where it ends, the high watermark, and up to where no transaction is open.
-func (r *Replica) Marks() (int, int, int, int) {
-	return 0, 0, 0, 0
-}
-
-// Stable answers up to where, below the high watermark, no transaction is open.
-func (r *Replica) Stable() int {
-	return 0
-}
-
-// Committed answers at most n batches from an offset on, that lie below where a transaction is open, and the transactions among them that were aborted.
-func (r *Replica) Committed(from, n int) ([]api.Batch, []api.Abort, int) {
-	return nil, nil, 0
-}
-
-// Log answers the log's batches, all of them.
-func (r *Replica) Log() []api.Batch {
-	return nil
-}
-
-// Ready tells whether the replica leads, and all that stood in its log when it began to is below the high watermark.
-func (r *Replica) Ready() bool {
-	return false
+	if r.unopened() {
+		return api.ErrState
+	}
+	if !r.leads || epoch != r.epoch {
+		return api.ErrLeader
+	}
+	r.isr, r.askedFor = nodesOf(isr), nodes{}
+	r.rise()
+	return api.OK
 }
 
 // Role answers the epoch (-1: none yet), and whether the replica leads.
 func (r *Replica) Role() (int, bool) {
-	return 0, false
+	if r.unopened() {
+		return 0, false
+	}
+	return r.epoch, r.leads
+}
+
+// Marks answers where the log begins, where it ends, the high watermark, and up to where no transaction is open.
+func (r *Replica) Marks() (int, int, int, int) {
+	if r.unopened() {
+		return 0, 0, 0, 0
+	}
+	return r.log.Start(), r.log.End(), r.high, r.Stable()
+}
+
+// unopened tells whether that isn't what Open has answered.
+func (r *Replica) unopened() bool {
+	return r == nil || r.log == nil
+}
+
+// leading tells whether it has been opened, and leads.
+func (r *Replica) leading() bool {
+	return !r.unopened() && r.leads
+}
+
+// enter goes on to an epoch, that must be a new one.
+func (r *Replica) enter(epoch int) api.Errno {
+	if r.unopened() {
+		return api.ErrState
+	}
+	if epoch <= r.epoch {
+		return api.ErrLeader
+	}
+	r.epoch = epoch
+	return api.OK
 }
