@@ -215,7 +215,7 @@ func writtenOut(value ast.Expr) bool {
 	return fine
 }
 
-// TestWaysOfStructs: what the structs of stages 1, 3, 6, 7 and 8 are made of.
+// TestWaysOfStructs: what the structs of stages 1, 3, 6, 7, 8 and 11 are made of.
 func TestWaysOfStructs(t *testing.T) {
 	want := map[string][]string{
 		"gate.Counter": {"atomic.Uint64"},
@@ -226,6 +226,8 @@ func TestWaysOfStructs(t *testing.T) {
 		"prod.Table":   {"map"},
 		"net.Net":      {"map", "generic"},
 		"raft.Raft":    {"map"},
+		"txn.State":    {"map"},
+		"group.State":  {"map"},
 	}
 	for _, s := range sources(t) {
 		ast.Inspect(s.tree, func(n ast.Node) bool {
@@ -526,6 +528,29 @@ func TestWaysOfImage(t *testing.T) {
 	}
 	if !told {
 		t.Error("no list lets anybody go by a closure")
+	}
+}
+
+// TestWaysOfGroup: what waited for a transaction is deleted from the map that keeps it.
+func TestWaysOfGroup(t *testing.T) {
+	kept, deleted := false, false
+	for _, s := range sources(t) {
+		if s.layer != "group" {
+			continue
+		}
+		ast.Inspect(s.tree, func(n ast.Node) bool {
+			switch x := n.(type) {
+			case *ast.Field:
+				_, ok := x.Type.(*ast.MapType)
+				kept = kept || ok && len(x.Names) == 1 && x.Names[0].Name == "waiting"
+			case *ast.CallExpr:
+				deleted = deleted || nameOf(x.Fun) == "delete" && nameOf(x.Args[0]) == "waiting"
+			}
+			return true
+		})
+	}
+	if !kept || !deleted {
+		t.Errorf("kept in a map: %v, deleted: %v", kept, deleted)
 	}
 }
 
