@@ -554,6 +554,98 @@ func TestWaysOfGroup(t *testing.T) {
 	}
 }
 
+// TestWaysOfWire: the writer and the reader of messages embed those of layer 3, and lists are taken by a generic function that is handed a method value.
+func TestWaysOfWire(t *testing.T) {
+	embedded := map[string]string{} // of each struct, what it embeds
+	variadic := 0
+	var generic, handed []string // the functions that are generic, and those that are handed a method value
+	for _, s := range sources(t) {
+		if s.layer != "wire" {
+			continue
+		}
+		ast.Inspect(s.tree, func(n ast.Node) bool {
+			switch x := n.(type) {
+			case *ast.TypeSpec:
+				embedded[x.Name.Name] = embeds(x)
+			case *ast.FuncDecl:
+				if x.Type.TypeParams != nil {
+					generic = append(generic, x.Name.Name)
+				}
+			case *ast.Ellipsis:
+				variadic++
+			case *ast.CallExpr:
+				if len(x.Args) == 2 {
+					if of, ok := x.Args[1].(*ast.SelectorExpr); ok && nameOf(of.X) == "r" {
+						handed = append(handed, nameOf(x.Fun))
+					}
+				}
+			}
+			return true
+		})
+	}
+	if embedded["writer"] != "Writer" || embedded["reader"] != "Reader" {
+		t.Errorf("embedded: %v", embedded)
+	}
+	if variadic == 0 {
+		t.Error("no call is variadic")
+	}
+	if !slices.ContainsFunc(generic, func(name string) bool { return slices.Contains(handed, name) }) {
+		t.Errorf("generic: %q; handed a method value: %q", generic, handed)
+	}
+}
+
+// embeds is the last name of what a struct embeds behind a pointer.
+func embeds(spec *ast.TypeSpec) string {
+	fields, ok := spec.Type.(*ast.StructType)
+	if !ok {
+		return ""
+	}
+	for _, f := range fields.Fields.List {
+		if to, ok := f.Type.(*ast.StarExpr); ok && len(f.Names) == 0 {
+			return nameOf(to.X)
+		}
+	}
+	return ""
+}
+
+// TestWaysOfGivingUp: in wire a panic is recovered by a deferred function literal, within which it is taken up by an assertion.
+func TestWaysOfGivingUp(t *testing.T) {
+	thrown, taken := false, false
+	for _, s := range sources(t) {
+		if s.layer != "wire" {
+			continue
+		}
+		ast.Inspect(s.tree, func(n ast.Node) bool {
+			switch x := n.(type) {
+			case *ast.CallExpr:
+				thrown = thrown || nameOf(x.Fun) == "panic"
+			case *ast.DeferStmt:
+				made, ok := x.Call.Fun.(*ast.FuncLit)
+				taken = taken || ok && takesUp(made)
+			}
+			return true
+		})
+	}
+	if !thrown || !taken {
+		t.Errorf("thrown: %v, taken up: %v", thrown, taken)
+	}
+}
+
+// takesUp tells whether a function recovers, and asserts.
+func takesUp(made *ast.FuncLit) bool {
+	recovers, asserts := false, false
+	ast.Inspect(made, func(n ast.Node) bool {
+		switch x := n.(type) {
+		case *ast.CallExpr:
+			recovers = recovers || nameOf(x.Fun) == "recover"
+		case *ast.TypeAssertExpr:
+			asserts = asserts || x.Type != nil
+		}
+		return true
+	})
+	return recovers && asserts
+}
+
 // nameOf is the last name of what stands there, if it is one.
 func nameOf(e ast.Expr) string {
 	switch x := e.(type) {
