@@ -15,9 +15,9 @@ import (
 	"testing"
 )
 
-// layers are the program's packages, from the lowest on: one may import those ahead of it. They are listed, and not looked for, since other folders may be laid beside them for tests.
+// layers are the program's packages, from the lowest on, and settings beside them: one may import those ahead of it. They are listed, and not looked for, since other folders may be laid beside them for tests.
 var layers = []string{
-	"api", "gate", "crc", "codec", "frame", "disk", "wal", "batch", "seglog", "prod", "epochs", "net", "raft",
+	"api", "settings", "gate", "crc", "codec", "frame", "disk", "wal", "batch", "seglog", "prod", "epochs", "net", "raft",
 	"image", "replica", "txn", "group", "wire", "node", "client", "cluster", "model", "play",
 }
 
@@ -644,6 +644,50 @@ func takesUp(made *ast.FuncLit) bool {
 		return true
 	})
 	return recovers && asserts
+}
+
+// TestWaysOfNode: what was marked stands in a map whose keys are arrays, and who leads no more has that cleared.
+func TestWaysOfNode(t *testing.T) {
+	keyed, cleared, leaves := false, false, false
+	for _, s := range sources(t) {
+		if s.layer != "node" {
+			continue
+		}
+		ast.Inspect(s.tree, func(n ast.Node) bool {
+			switch x := n.(type) {
+			case *ast.Field:
+				of, ok := x.Type.(*ast.MapType)
+				if ok && len(x.Names) == 1 && x.Names[0].Name == "marks" {
+					_, keyed = of.Key.(*ast.ArrayType)
+				}
+			case *ast.FuncDecl:
+				cleared = cleared || x.Name.Name == "clear" && calls(x, "clear", "marks")
+				leaves = leaves || x.Name.Name == "follow" && calls(x, "clear", "")
+			}
+			return true
+		})
+	}
+	if !keyed || !cleared || !leaves {
+		t.Errorf("keys are arrays: %v, cleared: %v, by who leads no more: %v", keyed, cleared, leaves)
+	}
+}
+
+// calls tells whether a function calls one of that name, with that as its first argument (none: without any).
+func calls(f *ast.FuncDecl, name, argument string) bool {
+	found := false
+	ast.Inspect(f.Body, func(n ast.Node) bool {
+		x, ok := n.(*ast.CallExpr)
+		if !ok || nameOf(x.Fun) != name {
+			return true
+		}
+		first := ""
+		if len(x.Args) > 0 {
+			first = nameOf(x.Args[0])
+		}
+		found = found || first == argument
+		return true
+	})
+	return found
 }
 
 // nameOf is the last name of what stands there, if it is one.

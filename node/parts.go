@@ -1,0 +1,208 @@
+package node
+
+import (
+	"slices"
+
+	"penstock/api"
+	"penstock/replica"
+)
+
+// part is a partition on the node.
+type part struct {
+	log     *replica.Replica
+	version int      // which list of those in sync a leader goes by
+	waiting []answer // of a leader
+}
+
+// answer is what is to be sent when the high watermark has come to an offset.
+type answer struct {
+	at  int
+	msg api.Msg
+}
+
+// gist is what answers to one sender differ by.
+type gist struct {
+	at, to, corr, inc, tx, part, offset, epoch int
+	pid                                        uint64
+	e                                          api.Errno
+}
+
+func (a answer) gist() gist {
+	m := a.msg
+	return gist{a.at, m.To, m.Corr, m.Inc, m.Tx, m.Part, m.Offset, m.Epoch, m.Pid, m.E}
+}
+
+func (p *part) leads() bool {
+	_, leads := p.log.Role()
+	return leads
+}
+
+func (p *part) end() int {
+	_, end, _, _ := p.log.Marks()
+	return end
+}
+
+func (p *part) high() int {
+	_, _, high, _ := p.log.Marks()
+	return high
+}
+
+// wait keeps an answer till all that stands in the log now is committed. The same one isn't kept twice: who asks again while nothing goes on is answered once.
+func (p *part) wait(m api.Msg) {
+	one := answer{p.end(), m}
+	same := func(a answer) bool { return a.gist() == one.gist() }
+	if !slices.ContainsFunc(p.waiting, same) {
+		p.waiting = append(p.waiting, one)
+	}
+}
+
+// release sends the answers for which all is committed that they rest on.
+func (n *Node) release() {
+	for _, p := range n.parts {
+		if len(p.waiting) == 0 {
+			continue
+		}
+		high := p.high()
+		p.waiting = slices.DeleteFunc(p.waiting, func(a answer) bool {
+			if a.at > high {
+				return false
+			}
+			n.send(a.msg)
+			return true
+		})
+	}
+}
+
+// leads tells whether the node leads a partition.
+func (n *Node) leads(k int) bool {
+	return n.parts[k].leads()
+}
+
+// assign lets the node lead and follow as the image says. Until it has come it knows older images than those that its logs are of: who followed by these could lose what is committed.
+func (n *Node) assign() {
+	if !n.came {
+		return
+	}
+	for k, p := range n.parts {
+		x, _ := n.image.Part(k)
+		epoch, leads := p.log.Role()
+		switch {
+		case x.Epoch > epoch && x.Leader == n.id:
+			n.lead(k, x)
+		case x.Epoch > epoch:
+			n.follow(k, x.Epoch)
+		case leads && x.Version != p.version:
+			// Only a new list tells what has become of those that were asked for.
+			p.log.Sync(x.Epoch, x.Isr)
+			p.version = x.Version
+		}
+	}
+}
+
+// lead lets the node lead a partition in a new epoch.
+func (n *Node) lead(k int, x api.Part) {
+	p := n.parts[k]
+	p.log.Lead(x.Epoch, x.Isr)
+	p.version, p.waiting = x.Version, nil
+	switch k {
+	case n.txPart():
+		n.txns.begin(p.log.Log())
+	case n.grPart():
+		n.groups.begin(p.log.Log())
+	}
+}
+
+// follow lets the node lead a partition no more; nobody is told any more what it had to tell.
+func (n *Node) follow(k, epoch int) {
+	p := n.parts[k]
+	p.log.Follow(epoch)
+	p.waiting = nil
+	switch k {
+	case n.txPart():
+		n.txns.clear()
+	case n.grPart():
+		n.groups.clear()
+	}
+}
+
+// lay lays a batch in a partition's log, and lets its coordinator, if it has one, take note of it.
+func (n *Node) lay(k int, b api.Batch) (int, api.Errno) {
+	p := n.parts[k]
+	end := p.end()
+	base, e := p.log.Produce(b)
+	if p.end() == end {
+		return base, e
+	}
+	b.Base = base
+	switch k {
+	case n.txPart():
+		n.txns.note(b)
+	case n.grPart():
+		n.groups.note(b)
+	}
+	return base, e
+}
+
+// tickParts lets leaders look who keeps up, and followers ask.
+func (n *Node) tickParts() {
+	for k, p := range n.parts {
+		p.log.Tick()
+		if n.active {
+			n.askForSync(k)
+			n.fetch(k)
+		}
+	}
+}
+
+// askForSync asks that those be in sync that should be. Who isn't there would be refused.
+func (n *Node) askForSync(k int) {
+	p := n.parts[k]
+	x, _ := n.image.Part(k)
+	stand := slices.Concat(x.Replicas, x.Target)
+	stand = slices.DeleteFunc(stand, func(i int) bool {
+		there, _, _ := n.image.Node(i)
+		return !there && !slices.Contains(x.Isr, i)
+	})
+	list, differs := p.log.Want(stand)
+	if !differs {
+		return
+	}
+	// Ahead of the asking: they may be in sync by the time that anybody hears of it.
+	p.log.Asked(list)
+	n.ask(api.Cmd{Kind: api.CIsr, Node: n.id, Part: k, Epoch: x.Epoch, Version: x.Version, List: list})
+}
+
+// fetch asks a partition's leader for what comes next, if the partition stands here, or shall.
+func (n *Node) fetch(k int) {
+	q, follows := n.parts[k].log.Need()
+	x, _ := n.image.Part(k)
+	stands := slices.Contains(x.Replicas, n.id) || slices.Contains(x.Target, n.id)
+	if follows && stands && x.Leader != nobody {
+		n.send(api.Msg{Kind: api.MFetch, To: x.Leader, Fetch: q})
+	}
+}
+
+// takeFetch answers a follower. Who asks wrongly will hear from the quorum why.
+func (n *Node) takeFetch(m api.Msg) {
+	q := m.Fetch
+	if !n.isPart(q.Part) || q.Node != m.From {
+		return
+	}
+	if a := n.parts[q.Part].log.Fetch(q); a.E == api.OK {
+		n.send(api.Msg{Kind: api.MFetched, To: m.From, Fetched: a})
+	}
+}
+
+// takeFetched takes a leader's answer; if there was something in it, there may be more.
+func (n *Node) takeFetched(m api.Msg) {
+	k := m.Fetched.Part
+	if !n.isPart(k) {
+		return
+	}
+	p := n.parts[k]
+	end := p.end()
+	p.log.Accept(m.Fetched)
+	if n.active && p.end() != end {
+		n.fetch(k)
+	}
+}
