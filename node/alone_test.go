@@ -94,6 +94,8 @@ func TestSpent(t *testing.T) {
 	n.txns.laid.Apply(api.TxRec{Kind: api.TInit, Tx: 1, Inc: 1, Pid: 1})
 	wantAnswer(t, "MInit", n, api.Msg{Kind: api.MInit, Tx: 1, Inc: 1}, api.Msg{Pid: 1, Offset: -1})
 	wantAnswer(t, "MInit", n, api.Msg{Kind: api.MInit, Tx: 1, Inc: 2}, api.Msg{Pid: 1, Epoch: 2, Offset: -1})
+	asks(t, n, api.Msg{Kind: api.MAdd, Tx: 1, Pid: 1, Epoch: 2, Offset: 0})
+	wantErrno(t, "MInit amid a transaction", n, api.Msg{Kind: api.MInit, Tx: 1, Inc: 3}, api.ErrBusy)
 	n.txns.laid.Apply(api.TxRec{Kind: api.TInit, Tx: 1, Inc: 2, Pid: 1, Epoch: 998})
 	wantErrno(t, "MInit", n, api.Msg{Kind: api.MInit, Tx: 1, Inc: 3}, api.ErrSpent)
 	wantErrno(t, "MInit", n, api.Msg{Kind: api.MInit, Tx: 1, Inc: 1}, api.ErrFenced)
@@ -158,8 +160,7 @@ func TestWrongPartitions(t *testing.T) {
 		wantErrno(t, "MAdd", n, api.Msg{Kind: api.MAdd, Pid: 1, Offset: k}, api.ErrArg)
 	}
 	asks(t, n, api.Msg{Kind: api.MJoin})
-	for _, k := range []int{-1, 2, 3, 4} {
-		wantErrno(t, "MOffset", n, api.Msg{Kind: api.MOffset, Part: k}, api.ErrArg)
+	for _, k := range []int{-1, 4, 5, 1 << 40} {
 		wantErrno(t, "MCommit", n, api.Msg{Kind: api.MCommit, Part: k, Gen: 1, Offset: 1}, api.ErrArg)
 		wantErrno(t, "MTxCommit", n, api.Msg{Kind: api.MTxCommit, Part: k, Gen: 1, Offset: 1, Pid: 1}, api.ErrArg)
 	}
@@ -308,10 +309,10 @@ func TestOpenForLong(t *testing.T) {
 		asks(t, n, api.Msg{Kind: api.MInit, Tx: 0, Inc: 1})
 		ticks(t, n, 200)
 		asks(t, n, api.Msg{Kind: api.MAdd, Pid: 1, Offset: 0})
-		for range 100 + 10*ops {
+		for i := range 100 + 10*ops {
 			ticks(t, n, 1)
-			// What is asked meanwhile doesn't make it younger.
-			wantErrno(t, "MAdd", n, api.Msg{Kind: api.MAdd, Pid: 1, Offset: 0}, api.OK)
+			// What is asked meanwhile doesn't make it younger, not even where it adds a partition.
+			wantErrno(t, "MAdd", n, api.Msg{Kind: api.MAdd, Pid: 1, Offset: min(i/50, 2)}, api.OK)
 		}
 		wantAnswer(t, "MProduce in time", n, api.Msg{Kind: api.MProduce, Batch: within(1, 0, 0, "a")}, api.Msg{Offset: 0})
 		ticks(t, n, 20)
@@ -319,6 +320,46 @@ func TestOpenForLong(t *testing.T) {
 		wantErrno(t, "MEnd", n, api.Msg{Kind: api.MEnd, Pid: 1, Commit: true}, api.ErrTxn)
 		wantAnswer(t, "MInit", n, api.Msg{Kind: api.MInit, Tx: 0, Inc: 2}, api.Msg{Pid: 1, Epoch: 4, Offset: 0, High: 1})
 	}
+}
+
+// TestMarkedAlready: where a producer has gone on to a greater epoch there is nothing to end any more, and its transaction ends all the same.
+func TestMarkedAlready(t *testing.T) {
+	n := alone(t, one(1, 1), disk.New())
+	asks(t, n, api.Msg{Kind: api.MInit, Tx: 0, Inc: 1})
+	asks(t, n, api.Msg{Kind: api.MAdd, Pid: 1, Offset: 0})
+	asks(t, n, api.Msg{Kind: api.MProduce, Batch: within(1, 4, 0, "of a later one")})
+	end := api.Msg{Kind: api.MEnd, Pid: 1, Commit: true}
+	wantErrno(t, "MEnd", n, end, api.ErrBusy)
+	wantEnds(t, n, end, 2)
+	if log, _, _ := n.Part(0); len(log) != 1 {
+		t.Errorf("the log has %+v", log)
+	}
+}
+
+// TestFullDisk: a batch for which there is no room is refused; a node that can't keep what the quorum asks of it does nothing any more.
+func TestFullDisk(t *testing.T) {
+	d := disk.New()
+	n := alone(t, one(1, 1), d)
+	room := api.MaxDisk
+	for _, name := range d.Names() {
+		size, _, _ := d.Size(name)
+		room -= size
+	}
+	if e := d.Append("full", make([]byte, room-5)); e != api.OK {
+		t.Fatal(e)
+	}
+	wantErrno(t, "MProduce", n, api.Msg{Kind: api.MProduce, Batch: records("a")}, api.ErrFull)
+	wantErrno(t, "MInit", n, api.Msg{Kind: api.MInit, Inc: 1}, api.ErrFull)
+	wantErrno(t, "MJoin", n, api.Msg{Kind: api.MJoin}, api.ErrFull)
+	if n.Broken() {
+		t.Error("broken by that")
+	}
+	before := n.Image()
+	n.Handle(api.Msg{Kind: api.MCmd, Cmd: api.Cmd{Kind: api.CMove, List: []int{0}}})
+	if out := n.Handle(api.Msg{Kind: api.MRead, From: caller}); len(out) > 0 || !n.Broken() {
+		t.Errorf("it goes on: %+v", out)
+	}
+	same(t, "Image", n.Image(), before)
 }
 
 // TestAgeIsOfOneTransaction: the next one isn't as old as the one ahead of it.

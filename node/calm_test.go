@@ -7,6 +7,7 @@ import (
 
 	"penstock/api"
 	"penstock/batch"
+	"penstock/disk"
 )
 
 // has tells whether a node has a record without a producer in a partition, at an offset.
@@ -56,59 +57,46 @@ func TestTogether(t *testing.T) {
 	}
 }
 
-// TestAnswersWait: while one in sync hasn't it there is no answer, be it OK or a refusal that rests on it.
+// TestAnswersWait: while one in sync hasn't it there is no answer, be it OK or a refusal that rests on it; then there is one.
 func TestAnswersWait(t *testing.T) {
 	x := calm(t, one(3, 1))
 	leader := x.part(0).Leader
+	x.cut[pair(leader, (leader+1)%3)] = true
 	b := within(7, 2, 0, "a")
-	first := x.ask(leader, api.Msg{Kind: api.MProduce, Batch: b})
-	again := x.ask(leader, api.Msg{Kind: api.MProduce, Batch: b})
-	fenced := x.ask(leader, api.Msg{Kind: api.MProduce, Batch: within(7, 1, 0, "a")})
-	form := x.ask(leader, api.Msg{Kind: api.MProduce, Batch: marker(7, 1, true)})
-	read := x.ask(leader, api.Msg{Kind: api.MRead})
-	// The two others get it one behind the other.
-	for _, id := range x.part(0).Isr {
-		if id == leader {
-			continue
-		}
-		for _, corr := range []int{first, again, fenced} {
-			if m, ok := x.reply(corr); ok {
-				t.Errorf("answered too early: %+v", m)
-			}
-		}
-		for range 2 {
-			x.nodes[id].Tick(0)
-			for _, m := range x.nodes[id].finishFetch(0) {
-				x.deliver(m)
-			}
-			list := x.flight
-			x.flight = nil
-			for _, m := range list {
-				if m.To == id && m.Kind == api.MFetched {
-					x.deliver(m)
-				}
-			}
-		}
+	want := map[int]api.Errno{
+		x.ask(leader, api.Msg{Kind: api.MProduce, Batch: b}):                      api.OK,
+		x.ask(leader, api.Msg{Kind: api.MProduce, Batch: b}):                      api.OK,
+		x.ask(leader, api.Msg{Kind: api.MProduce, Batch: within(7, 2, 5, "a")}):   api.ErrSeq,
+		x.ask(leader, api.Msg{Kind: api.MProduce, Batch: within(7, 1, 0, "a")}):   api.ErrFenced,
+		x.ask(leader, api.Msg{Kind: api.MProduce, Batch: records("a", "b", "c")}): api.OK,
 	}
-	if m, ok := x.reply(form); !ok || m.E != api.ErrForm {
+	// A request that comes twice is answered once.
+	x.nodes[leader].Handle(api.Msg{Kind: api.MProduce, From: 3, To: leader, Corr: x.asked - 1, Batch: within(7, 1, 0, "a")})
+	if m, ok := x.reply(x.ask(leader, api.Msg{Kind: api.MProduce, Batch: marker(7, 1, true)})); !ok || m.E != api.ErrForm {
 		t.Errorf("what rests on nothing: %+v, %v", m, ok)
 	}
-	if m, ok := x.reply(read); !ok || m.High != 0 || len(m.Batches) > 0 {
+	if m, ok := x.reply(x.ask(leader, api.Msg{Kind: api.MRead})); !ok || m.High != 0 || len(m.Batches) > 0 {
 		t.Errorf("MRead: %+v, %v", m, ok)
 	}
-	for corr, want := range map[int]api.Errno{first: api.OK, again: api.OK, fenced: api.ErrFenced} {
-		if m := x.wantReply(corr, 40); m.E != want {
-			t.Errorf("answered: %+v, want %d", m, want)
+	x.replies = nil
+	for range 4 {
+		x.calmRound()
+		if len(x.replies) > 0 {
+			t.Fatalf("answered too early: %+v", x.replies)
 		}
 	}
-}
-
-// finishFetch is what a node asks for a partition now.
-func (n *Node) finishFetch(k int) []api.Msg {
-	n.fetch(k)
-	out := n.out
-	n.out = nil
-	return out
+	clear(x.cut)
+	for range 40 {
+		x.calmRound()
+	}
+	if len(x.replies) != len(want) {
+		t.Errorf("%d answers: %+v", len(x.replies), x.replies)
+	}
+	for _, m := range x.replies {
+		if m.E != want[m.Corr] {
+			t.Errorf("answered: %+v, want %d", m, want[m.Corr])
+		}
+	}
 }
 
 // TestCoordinatorsWait: what is decided but not committed isn't told, and no marker is sent of it.
@@ -117,12 +105,17 @@ func TestCoordinatorsWait(t *testing.T) {
 	leader := x.part(1).Leader
 	x.wantReply(x.ask(leader, api.Msg{Kind: api.MInit, Tx: 0, Inc: 1}), 40)
 	x.wantReply(x.ask(leader, api.Msg{Kind: api.MAdd, Pid: 1, Offset: 0}), 40)
+	x.ask(leader, api.Msg{Kind: api.MEnd, Pid: 1})
+	for range 40 {
+		x.calmRound()
+	}
+	x.wantReply(x.ask(leader, api.Msg{Kind: api.MAdd, Pid: 1, Epoch: 2, Offset: 0}), 40)
 	x.cutOff(leader)
-	busy := x.ask(leader, api.Msg{Kind: api.MEnd, Pid: 1})
+	busy := x.ask(leader, api.Msg{Kind: api.MEnd, Pid: 1, Epoch: 2})
 	if m, _ := x.reply(busy); m.E != api.ErrBusy {
 		t.Errorf("MEnd: %+v", m)
 	}
-	wrong := x.ask(leader, api.Msg{Kind: api.MEnd, Pid: 1, Commit: true})
+	wrong := x.ask(leader, api.Msg{Kind: api.MEnd, Pid: 1, Epoch: 2, Commit: true})
 	add := x.ask(leader, api.Msg{Kind: api.MInit, Tx: 1, Inc: 1})
 	join := x.ask(leader, api.Msg{Kind: api.MJoin})
 	for range 5 {
@@ -133,7 +126,7 @@ func TestCoordinatorsWait(t *testing.T) {
 			t.Errorf("told: %+v", m)
 		}
 	}
-	if log, _, _ := x.nodes[leader].Part(0); len(log) > 0 {
+	if log, _, _ := x.nodes[leader].Part(0); len(log) != 1 {
 		t.Errorf("marked: %+v", log)
 	}
 	// Another one leads, for whom the transaction is open, and decides otherwise.
@@ -141,7 +134,7 @@ func TestCoordinatorsWait(t *testing.T) {
 	x.settle(100)
 	clear(x.cut)
 	next := x.part(1).Leader
-	if m := x.wantReply(x.ask(next, api.Msg{Kind: api.MEnd, Pid: 1, Commit: true}), 40); m.E != api.ErrBusy {
+	if m := x.wantReply(x.ask(next, api.Msg{Kind: api.MEnd, Pid: 1, Epoch: 2, Commit: true}), 40); m.E != api.ErrBusy {
 		t.Errorf("MEnd: %+v", m)
 	}
 	x.rise(leader)
@@ -149,8 +142,8 @@ func TestCoordinatorsWait(t *testing.T) {
 	for range 50 {
 		x.calmRound()
 	}
-	end := x.wantReply(x.ask(x.part(1).Leader, api.Msg{Kind: api.MEnd, Pid: 1, Commit: true}), 40)
-	if end.E != api.OK || end.Epoch != 2 {
+	end := x.wantReply(x.ask(x.part(1).Leader, api.Msg{Kind: api.MEnd, Pid: 1, Epoch: 2, Commit: true}), 40)
+	if end.E != api.OK || end.Epoch != 4 {
 		t.Errorf("MEnd: %+v", end)
 	}
 	for _, corr := range []int{wrong, add, join} {
@@ -220,15 +213,22 @@ func TestOthersRefuse(t *testing.T) {
 // TestNotReady: a new coordinator is busy till all that its log had is committed; a partition without one isn't.
 func TestNotReady(t *testing.T) {
 	x := calm(t, one(3, 1))
-	old := x.part(1).Leader
-	x.wantReply(x.ask(old, api.Msg{Kind: api.MInit, Tx: 0, Inc: 1}), 40)
-	x.wantReply(x.ask(old, api.Msg{Kind: api.MJoin}), 40)
+	x.wantReply(x.ask(x.part(0).Leader, api.Msg{Kind: api.MProduce, Batch: records("a")}), 40)
+	x.wantReply(x.ask(x.part(1).Leader, api.Msg{Kind: api.MInit, Tx: 0, Inc: 1}), 40)
+	x.wantReply(x.ask(x.part(2).Leader, api.Msg{Kind: api.MJoin}), 40)
 	// By a new start nobody knows any more how far all in sync have come.
 	x.riseAll()
 	busy := map[int]int{}
+	laid := nobody
 	for range 60 {
 		x.calmRound()
 		for id, n := range x.nodes {
+			if n.leads(0) && !n.isReady(0) && laid == nobody {
+				laid = x.ask(id, api.Msg{Kind: api.MProduce, Batch: records("b")})
+				if m, ok := x.reply(x.ask(id, api.Msg{Kind: api.MRead})); !ok || m.E != api.OK || m.High != 0 {
+					t.Errorf("MRead: %+v, %v", m, ok)
+				}
+			}
 			for _, kind := range []int{api.MInit, api.MAdd, api.MEnd, api.MJoin, api.MOffset, api.MCommit, api.MTxCommit} {
 				k, _ := n.partOf(api.Msg{Kind: kind})
 				if _, _, leads := n.Part(k); !leads || n.parts[k].log.Ready() {
@@ -244,6 +244,9 @@ func TestNotReady(t *testing.T) {
 	}
 	if len(busy) != 7 {
 		t.Errorf("busy: %v", busy)
+	}
+	if m, ok := x.reply(laid); !ok || m.E != api.OK || m.Offset != 1 {
+		t.Errorf("MProduce: %+v, %v", m, ok)
 	}
 	if m := x.wantReply(x.ask(x.part(1).Leader, api.Msg{Kind: api.MInit, Tx: 0, Inc: 1}), 40); m.E != api.OK || m.Pid != 1 {
 		t.Errorf("MInit: %+v", m)
@@ -275,6 +278,92 @@ func TestFenced(t *testing.T) {
 			x.wantLaid(k)
 		}
 	}
+}
+
+// TestPatience: who is away for a short while isn't fenced; nor is anybody by a leader who hears nobody.
+func TestPatience(t *testing.T) {
+	for _, short := range []bool{true, false} {
+		x := calm(t, one(3, 1))
+		leader := x.quorumLeader()
+		if short {
+			// The others' clocks stand still, so that nobody asks for votes.
+			for range 6 {
+				x.tick(leader, 0)
+				for range 2 {
+					list := x.flight
+					x.flight = nil
+					for _, m := range list {
+						if m.From != (leader+1)%3 {
+							x.deliver(m)
+						}
+					}
+				}
+				x.flight = nil
+			}
+		} else {
+			for range 30 {
+				x.tick(leader, 0)
+				x.flight = nil
+			}
+		}
+		x.settle(100)
+		for id := range x.nodes {
+			wantStarts(t, x.nodes[id], 1)
+		}
+		if role, _, _, _, _ := x.nodes[leader].raft.State(); role != api.Leader {
+			t.Error("another one leads the quorum")
+		}
+	}
+}
+
+// TestNewTerm: a leader of a new term has heard nobody yet, and laid nothing.
+func TestNewTerm(t *testing.T) {
+	x := calm(t, one(3, 1))
+	n := x.nodes[x.quorumLeader()]
+	n.desk = desk{term: n.desk.term - 1, silence: [api.MaxNodes]int{20, 20, 20}, proposed: []proposal{{index: 1 << 40}}}
+	if !n.leadsQuorum() || n.desk.silence != [api.MaxNodes]int{} || len(n.desk.proposed) > 0 {
+		t.Errorf("the desk is %+v", n.desk)
+	}
+}
+
+// TestAskedTwice: a command that is under way isn't laid again.
+func TestAskedTwice(t *testing.T) {
+	x := calm(t, one(3, 1))
+	before := len(x.entries)
+	for range 5 {
+		x.move(0, 0, 1, 2)
+	}
+	for range 20 {
+		x.calmRound()
+	}
+	if len(x.entries) != before+1 {
+		t.Errorf("%d entries behind %d", len(x.entries), before)
+	}
+}
+
+// TestNotThere: a follower whom the quorum's leader doesn't hear may ask on and on; it keeps nobody else from being in sync.
+func TestNotThere(t *testing.T) {
+	x := calm(t, api.Config{Nodes: 5, Parts: 1, Copies: 3})
+	q, k := x.quorumLeader(), 0
+	for slices.Contains(x.part(k).Isr, q) {
+		k++
+	}
+	p := x.part(k)
+	followers := slices.DeleteFunc(p.Isr, func(id int) bool { return id == p.Leader })
+	away, late := followers[0], followers[1]
+	x.cut[pair(q, away)] = true
+	x.nodes[late] = nil
+	for range 40 {
+		x.calmRound()
+	}
+	same(t, "in sync", partOf(t, x.nodes[q], k).Isr, []int{p.Leader})
+	x.rise(late)
+	for range 60 {
+		x.calmRound()
+	}
+	want := []int{p.Leader, late}
+	slices.Sort(want)
+	same(t, "in sync", partOf(t, x.nodes[q], k).Isr, want)
 }
 
 // TestNoMajority: while half of the nodes are down nothing is applied.
@@ -359,6 +448,11 @@ func TestSnapshot(t *testing.T) {
 			x.move(k, both...)
 		}
 		x.calmRound()
+		for _, id := range both {
+			if h := x.nodes[id].store.hard; h.Base > 0 && len(h.Log) < shortLog {
+				t.Fatalf("the node %d has %d entries behind its snapshot", id, len(h.Log))
+			}
+		}
 	}
 	for id, n := range x.nodes {
 		if n != nil && n.store.hard.Base == 0 {
@@ -389,6 +483,26 @@ func TestSnapshot(t *testing.T) {
 		t.Error("nobody has come again")
 	}
 	x.wantLaid(0)
+}
+
+// TestSnapshotAcrossStarts: the log is shortened though no start lasts for long.
+func TestSnapshotAcrossStarts(t *testing.T) {
+	d := disk.New()
+	count := 0
+	for count < longLog+2*shortLog {
+		n := alone(t, one(1, 1), d)
+		for range shortLog / 2 {
+			n.Handle(api.Msg{Kind: api.MCmd, Cmd: api.Cmd{Kind: api.CMove, List: []int{0}}})
+		}
+		_, _, count = imageOf(t, n).Counts()
+	}
+	n := alone(t, one(1, 1), d)
+	if h := n.store.hard; h.Base != longLog || len(n.Applied()) != len(h.Log) || n.Applied()[0].Index != longLog+1 {
+		t.Errorf("behind %d there are %d entries", h.Base, len(h.Log))
+	}
+	if _, _, now := imageOf(t, n).Counts(); now <= count {
+		t.Errorf("%d commands, and before %d", now, count)
+	}
 }
 
 // TestTransactionAcross: partitions of several leaders are ended together.
@@ -431,5 +545,96 @@ func TestTransactionAcross(t *testing.T) {
 				t.Errorf("the partition %d: %+v", k, b)
 			}
 		}
+	}
+}
+
+// TestLostMarkers: markers, and the answers to them, that are lost are sent again.
+func TestLostMarkers(t *testing.T) {
+	for _, kind := range []int{api.MMarker, api.MReply} {
+		x := calm(t, api.Config{Nodes: 3, Parts: 2, Copies: 2})
+		leader := x.part(2).Leader
+		if leader == x.part(0).Leader {
+			t.Fatalf("both are led by %d", leader)
+		}
+		x.wantReply(x.ask(leader, api.Msg{Kind: api.MInit, Inc: 1}), 40)
+		x.wantReply(x.ask(leader, api.Msg{Kind: api.MAdd, Pid: 1, Offset: 0}), 40)
+		x.ask(leader, api.Msg{Kind: api.MEnd, Pid: 1, Commit: true})
+		lost := 0
+		for range 60 {
+			x.flight = slices.DeleteFunc(x.flight, func(m api.Msg) bool {
+				if m.Kind != kind || lost == 2 {
+					return false
+				}
+				lost++
+				return true
+			})
+			x.calmRound()
+		}
+		m := x.wantReply(x.ask(leader, api.Msg{Kind: api.MEnd, Pid: 1, Commit: true}), 40)
+		if lost != 2 || m.E != api.OK {
+			t.Errorf("lost: %d; MEnd: %+v", lost, m)
+		}
+		log, _, _ := x.nodes[x.part(0).Leader].Part(0)
+		same(t, "the log", log, []api.Batch{at(0, 1, marker(1, 1, true))})
+		wantTxLog(t, x.nodes[leader], []api.TxRec{
+			{Kind: api.TInit, Inc: 1, Pid: 1},
+			{Kind: api.TAdd, Parts: []int{0}},
+			{Kind: api.TPrep, Commit: true},
+			{Kind: api.TDone},
+		})
+	}
+}
+
+// TestLateMarks: that a marker of an earlier transaction stands says nothing of the next one.
+func TestLateMarks(t *testing.T) {
+	x := calm(t, api.Config{Nodes: 3, Parts: 2, Copies: 2})
+	leader := x.part(2).Leader
+	var late []api.Msg
+	x.wantReply(x.ask(leader, api.Msg{Kind: api.MInit, Inc: 1}), 40)
+	for epoch := 0; epoch <= 2; epoch += 2 {
+		x.wantReply(x.ask(leader, api.Msg{Kind: api.MAdd, Pid: 1, Epoch: epoch, Offset: 0}), 40)
+		x.ask(leader, api.Msg{Kind: api.MEnd, Pid: 1, Epoch: epoch, Commit: true})
+		for range 40 {
+			x.calmRound()
+			for _, m := range x.flight {
+				if m.Kind == api.MReply && epoch == 0 {
+					late = append(late, m)
+				}
+			}
+			if epoch == 2 {
+				x.flight = slices.DeleteFunc(x.flight, func(m api.Msg) bool { return m.Kind == api.MMarker })
+				x.flight = append(x.flight, late...)
+			}
+		}
+	}
+	if state := x.nodes[leader].txns.laid.Tx(0).State; len(late) == 0 || state != api.TxPrepared {
+		t.Errorf("behind %d late messages the state is %d", len(late), state)
+	}
+}
+
+// TestMarkersCommitted: a transaction has ended when its markers are committed, and not ahead of that.
+func TestMarkersCommitted(t *testing.T) {
+	x := calm(t, api.Config{Nodes: 4, Parts: 2, Copies: 2})
+	p, leader := x.part(0), x.part(2).Leader
+	if slices.Contains(p.Isr, leader) {
+		t.Fatalf("the coordinator is %d, in sync: %v", leader, p.Isr)
+	}
+	x.wantReply(x.ask(leader, api.Msg{Kind: api.MInit, Inc: 1}), 40)
+	x.wantReply(x.ask(leader, api.Msg{Kind: api.MAdd, Pid: 1, Offset: 0}), 40)
+	x.ask(leader, api.Msg{Kind: api.MEnd, Pid: 1, Commit: true})
+	waited := 0
+	for range 60 {
+		log, high, _ := x.nodes[p.Leader].Part(0)
+		if len(log) > 0 && high == 0 {
+			x.cut[pair(p.Isr[0], p.Isr[1])] = waited < 4
+			waited++
+			if state := x.nodes[leader].txns.laid.Tx(0).State; state != api.TxPrepared {
+				t.Errorf("the state is %d ahead of the marker's being committed", state)
+			}
+		}
+		x.calmRound()
+	}
+	if state := x.nodes[leader].txns.laid.Tx(0).State; state != api.TxComplete || waited < 4 {
+		t.Errorf("the state is %d, behind %d rounds", state, waited)
 	}
 }

@@ -154,6 +154,33 @@ func TestChaos(t *testing.T) {
 	}
 }
 
+// TestQuiet: what is sent for what was delivered comes to an end, without any tick; and so they come together, too.
+func TestQuiet(t *testing.T) {
+	t.Parallel()
+	for seed := range 40 {
+		draw := rand.New(rand.NewSource(int64(seed)))
+		x := newCrowd(t, drawn(draw, 1+seed%5, 1), draw, map[string]int{})
+		x.happenings(400)
+		x.riseAll()
+		for round := 0; !x.settled(); round++ {
+			if round == 100 {
+				t.Fatalf("seed %d: not settled", seed)
+			}
+			for id := range x.nodes {
+				x.tick(id, uint64(id+7*round))
+			}
+			for count := 0; len(x.flight) > 0; count++ {
+				if count == 5000 {
+					t.Fatalf("seed %d: %+v", seed, x.flight[0])
+				}
+				m := x.flight[0]
+				x.flight = x.flight[1:]
+				x.deliver(m)
+			}
+		}
+	}
+}
+
 // comeTogether: within 500 rounds all have come to one state, what was ever committed is below the leaders' high watermarks, and they lay what they are asked to.
 func (x *crowd) comeTogether() {
 	x.t.Helper()

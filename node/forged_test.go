@@ -7,6 +7,7 @@ import (
 
 	"penstock/api"
 	"penstock/disk"
+	"penstock/image"
 )
 
 // forger makes messages that no node would send.
@@ -64,6 +65,36 @@ func (f forger) msg() api.Msg {
 	}
 	m.From = []int{m.From, m.Raft.From, m.Fetch.Node}[f.Intn(3)]
 	return m
+}
+
+// TestStrangeEntries: what nodes of this cluster don't make isn't laid, and isn't kept.
+func TestStrangeEntries(t *testing.T) {
+	m, _ := image.New(2, 3, 1)
+	nodes, _ := m.Bytes()
+	m, _ = image.New(3, 4, 1)
+	parts, _ := m.Bytes()
+	m, _ = image.New(3, 3, 1)
+	m.Apply(api.Cmd{Kind: api.CJoin, Node: 1, Epoch: 1})
+	fits, _ := m.Bytes()
+	for _, r := range []api.RMsg{
+		{Kind: api.RAppend, Commit: 1, Entries: []api.Entry{{Term: 1, Data: make([]byte, 5000)}}},
+		{Kind: api.RAppend, Commit: 2, Entries: []api.Entry{{Term: 1}, {Term: 1, Data: []byte("x")}}},
+		{Kind: api.RSnap, Index: 5, Snap: nodes},
+		{Kind: api.RSnap, Index: 5, Snap: parts},
+		{Kind: api.RSnap, Index: 5, Snap: []byte("x")},
+		{Kind: api.RSnap, Index: 5},
+	} {
+		n := openOn(t, 0, one(3, 1), disk.New())
+		before := n.Image()
+		r.From, r.Term = 1, 1
+		if out := n.Handle(api.Msg{Kind: api.MRaft, From: 1, Raft: r}); len(out) > 0 || n.Broken() || len(n.Applied()) > 0 {
+			t.Errorf("behind %+v: %+v, broken: %v", r, out, n.Broken())
+		}
+		same(t, "Image", n.Image(), before)
+	}
+	n := openOn(t, 0, one(3, 1), disk.New())
+	n.Handle(api.Msg{Kind: api.MRaft, From: 1, Raft: api.RMsg{Kind: api.RSnap, From: 1, Term: 1, Index: 5, Snap: fits}})
+	same(t, "Image", n.Image(), fits)
 }
 
 // TestForged: whatever nodes are handed, each call ends, and none panics.

@@ -67,18 +67,12 @@ func (n *Node) join(m api.Msg) {
 
 func (n *Node) offset(m api.Msg) {
 	at, e := n.groups.state.Offset(m.Group, m.Part)
-	if e == api.OK && !n.isData(m.Part) {
-		at, e = 0, api.ErrArg
-	}
 	n.answer(n.grPart(), m, api.Msg{E: e, Offset: at})
 }
 
 // commit takes note of how far a group has come: at once, or when the producer's transaction commits.
 func (n *Node) commit(m api.Msg) {
 	r, e := n.groups.state.Commit(m.Group, m.Member, m.Gen, m.Part, m.Offset)
-	if !n.isData(m.Part) {
-		e = api.ErrArg
-	}
 	if e == api.OK {
 		e = n.layGroup(r, batchOf(m))
 	}
@@ -104,15 +98,10 @@ func (n *Node) layGroup(r api.GrRec, b api.Batch) api.Errno {
 	return e
 }
 
-// isData tells whether there is a partition of that number that is the clients'.
-func (n *Node) isData(k int) bool {
-	return 0 <= k && k < n.data
-}
-
 // tickGroups lets members go that have asked nothing for long.
 func (n *Node) tickGroups() {
 	g := &n.groups
-	if !n.coordinates(n.grPart()) {
+	if !n.isReady(n.grPart()) {
 		return
 	}
 	for _, name := range g.state.Groups() {

@@ -352,7 +352,7 @@ func TestNoMemoryShared(t *testing.T) {
 	list[0] = 5
 	same(t, "Replicas", partOf(t, n, 0).Replicas, []int{0})
 
-	applied, text := n.Applied(), string(n.Image())
+	applied, text := fmt.Sprintf("%+v", n.Applied()), string(n.Image())
 	for _, c := range n.Applied() {
 		for i := range c.Data {
 			c.Data[i] = 99

@@ -22,14 +22,13 @@ type answer struct {
 
 // gist is what answers to one sender differ by.
 type gist struct {
-	at, to, corr, inc, tx, part, offset, epoch int
-	pid                                        uint64
-	e                                          api.Errno
+	to, corr, inc, tx, part, offset, epoch int
+	pid                                    uint64
+	e                                      api.Errno
 }
 
-func (a answer) gist() gist {
-	m := a.msg
-	return gist{a.at, m.To, m.Corr, m.Inc, m.Tx, m.Part, m.Offset, m.Epoch, m.Pid, m.E}
+func gistOf(m api.Msg) gist {
+	return gist{m.To, m.Corr, m.Inc, m.Tx, m.Part, m.Offset, m.Epoch, m.Pid, m.E}
 }
 
 func (p *part) leads() bool {
@@ -49,10 +48,9 @@ func (p *part) high() int {
 
 // wait keeps an answer till all that stands in the log now is committed. The same one isn't kept twice: who asks again while nothing goes on is answered once.
 func (p *part) wait(m api.Msg) {
-	one := answer{p.end(), m}
-	same := func(a answer) bool { return a.gist() == one.gist() }
+	same := func(a answer) bool { return gistOf(a.msg) == gistOf(m) }
 	if !slices.ContainsFunc(p.waiting, same) {
-		p.waiting = append(p.waiting, one)
+		p.waiting = append(p.waiting, answer{p.end(), m})
 	}
 }
 
@@ -76,6 +74,11 @@ func (n *Node) release() {
 // leads tells whether the node leads a partition.
 func (n *Node) leads(k int) bool {
 	return n.parts[k].leads()
+}
+
+// isReady tells whether the node leads a partition, and all that it found there is committed.
+func (n *Node) isReady(k int) bool {
+	return n.parts[k].log.Ready()
 }
 
 // assign lets the node lead and follow as the image says. Until it has come it knows older images than those that its logs are of: who followed by these could lose what is committed.
@@ -185,7 +188,7 @@ func (n *Node) fetch(k int) {
 // takeFetch answers a follower. Who asks wrongly will hear from the quorum why.
 func (n *Node) takeFetch(m api.Msg) {
 	q := m.Fetch
-	if !n.isPart(q.Part) || q.Node != m.From {
+	if !n.isPart(q.Part) {
 		return
 	}
 	if a := n.parts[q.Part].log.Fetch(q); a.E == api.OK {

@@ -34,9 +34,8 @@ type snapshot struct {
 	text  []byte
 }
 
-// wish is what was asked of the quorum's leader last.
+// wish is a command that was asked for last, and when.
 type wish struct {
-	to    int
 	text  string
 	clock int
 }
@@ -56,6 +55,7 @@ func (n *Node) pump() {
 	}
 	for _, c := range ready.Commits {
 		n.apply(c)
+		n.shorten(c.Index)
 	}
 	for _, m := range ready.Msgs {
 		n.send(api.Msg{Kind: api.MRaft, To: m.To, Raft: m})
@@ -63,7 +63,6 @@ func (n *Node) pump() {
 	if ready.Restore || len(ready.Commits) > 0 {
 		n.come()
 		n.assign()
-		n.shorten()
 	}
 }
 
@@ -83,27 +82,23 @@ func (n *Node) apply(c api.Commit) {
 	}
 }
 
-// shorten lets a snapshot stand for the log's older entries, if that is long. It is taken ahead of its use, so that some entries stay behind it.
-func (n *Node) shorten() {
-	if len(n.applied) == 0 {
-		return
-	}
-	base, last := n.store.hard.Base, n.applied[len(n.applied)-1].Index
+// shorten lets a snapshot stand for the log's older entries, if that is long by the time that one is applied. It is taken ahead of its use, so that some entries stay behind it. That it is used may be kept later: till then the entries are.
+func (n *Node) shorten(index int) {
+	base := n.store.hard.Base
 	switch {
-	case last-base < longLog:
+	case index-base < longLog:
 	case n.taken.index <= base:
 		text, _ := n.image.Bytes()
-		n.taken = snapshot{last, text}
-	case last-n.taken.index >= shortLog:
+		n.taken = snapshot{index, text}
+	case index-n.taken.index == shortLog:
 		n.raft.Compact(n.taken.index, n.taken.text)
-		n.pump()
 	}
 }
 
 // takeRaft takes a message of the quorum's.
 func (n *Node) takeRaft(m api.Msg) {
 	from := m.Raft.From
-	if from != m.From || from < 0 || from >= n.nodes || !n.fits(m.Raft) {
+	if from < 0 || from >= n.nodes || !n.fits(m.Raft) {
 		return
 	}
 	n.desk.silence[from] = 0
@@ -209,10 +204,10 @@ func (n *Node) ask(c api.Cmd) {
 	}
 	key := [2]int{c.Kind, c.Part}
 	last, asked := n.wishes[key]
-	if asked && last.to == leader && last.text == string(text) && n.clock-last.clock < again {
+	if asked && last.text == string(text) && n.clock-last.clock < again {
 		return
 	}
-	n.wishes[key] = wish{leader, string(text), n.clock}
+	n.wishes[key] = wish{string(text), n.clock}
 	n.send(api.Msg{Kind: api.MCmd, To: leader, Cmd: c})
 }
 

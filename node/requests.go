@@ -50,7 +50,7 @@ func (n *Node) unable(k, kind int) api.Errno {
 		return api.ErrArg
 	case !n.leads(k):
 		return api.ErrLeader
-	case kind != api.MProduce && kind != api.MRead && !n.parts[k].log.Ready():
+	case kind != api.MProduce && kind != api.MRead && !n.isReady(k):
 		return api.ErrBusy
 	}
 	return api.OK

@@ -26,7 +26,7 @@ func evolved(draw *rand.Rand, h api.Hard) api.Hard {
 	h.Log = slices.Clone(h.Log)
 	last := h.Base + len(h.Log)
 	if draw.Intn(3) == 0 {
-		h.Term, h.Vote = h.Term+1+draw.Intn(3), draw.Intn(6)-1
+		h.Term, h.Vote = h.Term+draw.Intn(3), draw.Intn(6)-1
 	}
 	switch draw.Intn(12) {
 	case 0, 1: // another leader's entries take the place of the last ones

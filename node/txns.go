@@ -30,10 +30,10 @@ type laidTx struct {
 	list []api.TxRec
 }
 
-// mark is how far a marker has come: to whom it was sent last, and when, and whether it is committed.
+// mark is how far a marker has come: when it was sent last, and whether it is committed.
 type mark struct {
-	to, clock int
-	done      bool
+	clock int
+	done  bool
 }
 
 // openFor is for how many ticks a transaction may be open.
@@ -107,8 +107,7 @@ func (t *txns) hold(high int) {
 // ending is what is known of a name whose transaction is to be ended by markers: that is decided, committed, and not done yet.
 func (t *txns) ending(name int) (api.Tx, bool) {
 	now, sure := t.laid.Tx(name), t.held.Tx(name)
-	prepared := now.State == api.TxPrepared && sure.State == api.TxPrepared
-	return now, prepared && now.Last == sure.Last && now.LastPid == sure.LastPid
+	return now, now.State == api.TxPrepared && now.Last == sure.Last && now.LastPid == sure.LastPid
 }
 
 // freePid is a number of a producer that the node may give out; 0: it has none. Which ones were given out the log says, so that a new start wastes none.
@@ -146,11 +145,9 @@ func (n *Node) initTx(m api.Msg) {
 
 // isSpent tells whether a name isn't given a producer since there is no number of one any more.
 func (n *Node) isSpent(m api.Msg) bool {
-	if _, left := n.image.Pids(); n.freePid() != 0 || left >= api.BlockSize {
-		return false
-	}
+	_, left := n.image.Pids()
 	_, would, e := n.txns.laid.Init(m.Tx, m.Inc, api.MaxPid)
-	return would && e == api.OK
+	return left < api.BlockSize && would && e == api.OK
 }
 
 func (n *Node) addToTx(m api.Msg) {
@@ -196,7 +193,7 @@ func (n *Node) layTx(r api.TxRec) api.Errno {
 // tickTxns aborts what has been open for long.
 func (n *Node) tickTxns() {
 	t := &n.txns
-	if !n.coordinates(n.txPart()) {
+	if !n.isReady(n.txPart()) {
 		return
 	}
 	for _, name := range t.laid.Names() {
@@ -214,15 +211,10 @@ func (n *Node) tickTxns() {
 	}
 }
 
-// coordinates tells whether the node may do as the coordinator that a partition has.
-func (n *Node) coordinates(k int) bool {
-	return n.active && n.parts[k].log.Ready()
-}
-
 // endTxns ends the transactions that are decided: by markers, and then for good.
 func (n *Node) endTxns() {
 	t, k := &n.txns, n.txPart()
-	if !n.coordinates(k) {
+	if !n.isReady(k) {
 		return
 	}
 	t.hold(n.parts[k].high())
@@ -255,10 +247,10 @@ func (n *Node) markAll(name int, x api.Tx) bool {
 		}
 		all = false
 		p, _ := n.image.Part(k)
-		if p.Leader == nobody || sent && last.to == p.Leader && n.clock-last.clock < markAgain {
+		if p.Leader == nobody || sent && n.clock-last.clock < markAgain {
 			continue
 		}
-		n.txns.marks[key] = mark{to: p.Leader, clock: n.clock}
+		n.txns.marks[key] = mark{clock: n.clock}
 		n.send(api.Msg{Kind: api.MMarker, To: p.Leader, Tx: name, Part: k, Batch: markerOf(x)})
 	}
 	return all
@@ -272,7 +264,7 @@ func markerOf(x api.Tx) api.Batch {
 // takeMarker lays a coordinator's marker. A producer that has gone on to a greater epoch has none open that this could end.
 func (n *Node) takeMarker(m api.Msg) {
 	k, b := m.Part, m.Batch
-	if !n.active || !n.isPart(k) || !n.leads(k) || !b.Control {
+	if !n.isPart(k) || !n.leads(k) || !b.Control {
 		return
 	}
 	if _, e := n.lay(k, b); e != api.OK && e != api.ErrFenced {
@@ -283,7 +275,7 @@ func (n *Node) takeMarker(m api.Msg) {
 
 // takeMarked takes note that a marker is committed.
 func (n *Node) takeMarked(m api.Msg) {
-	if !n.coordinates(n.txPart()) {
+	if !n.isReady(n.txPart()) {
 		return
 	}
 	x, ends := n.txns.ending(m.Tx)
