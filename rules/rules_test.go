@@ -672,6 +672,57 @@ func TestWaysOfNode(t *testing.T) {
 	}
 }
 
+// TestWaysOfClient: what is done by an operation's kind is found in a map of method expressions, that a function makes and that is asked by the kind.
+func TestWaysOfClient(t *testing.T) {
+	kinds, asked := 0, false
+	for _, s := range sources(t) {
+		if s.layer != "client" {
+			continue
+		}
+		ast.Inspect(s.tree, func(n ast.Node) bool {
+			switch x := n.(type) {
+			case *ast.CompositeLit:
+				if of, ok := x.Type.(*ast.MapType); ok && isFunction(of.Value) {
+					kinds += methodExpressions(x)
+				}
+			case *ast.IndexExpr:
+				made, ok := x.X.(*ast.CallExpr)
+				asked = asked || ok && nameOf(made.Fun) == "deeds" && nameOf(x.Index) == "Kind"
+			}
+			return true
+		})
+	}
+	if kinds != 5 || !asked {
+		t.Errorf("method expressions: %d, asked by the kind: %v", kinds, asked)
+	}
+}
+
+func isFunction(e ast.Expr) bool {
+	_, ok := e.(*ast.FuncType)
+	return ok
+}
+
+// methodExpressions is how many of a map's values are method expressions of a pointer's type.
+func methodExpressions(table *ast.CompositeLit) int {
+	count := 0
+	for _, e := range table.Elts {
+		pair, ok := e.(*ast.KeyValueExpr)
+		if !ok {
+			continue
+		}
+		value, ok := pair.Value.(*ast.SelectorExpr)
+		if !ok {
+			continue
+		}
+		if of, ok := value.X.(*ast.ParenExpr); ok {
+			if _, ok := of.X.(*ast.StarExpr); ok {
+				count++
+			}
+		}
+	}
+	return count
+}
+
 // calls tells whether a function calls one of that name, with that as its first argument (none: without any).
 func calls(f *ast.FuncDecl, name, argument string) bool {
 	found := false
