@@ -102,8 +102,8 @@ func TestChaos(t *testing.T) {
 // sleep lets calm rounds go by, through which one client in so many sleeps.
 func (x *world) sleep(draw *rand.Rand, many, rounds int) {
 	x.t.Helper()
-	for i := range x.asleep {
-		x.asleep[i] = draw.Intn(many) == 0
+	for number := range x.clients {
+		x.asleep[len(x.nodes)+number] = draw.Intn(many) == 0
 	}
 	for range rounds {
 		x.calmRound()

@@ -5,6 +5,7 @@ import (
 	"testing"
 
 	"penstock/api"
+	"penstock/node"
 	"penstock/wire"
 )
 
@@ -91,23 +92,26 @@ func TestExampleOfReading(t *testing.T) {
 		sent(3, 1, 0, "b"), seen(api.TrCommit, 4), seek(5, 0, 2), seek(5, 1, 0), read(5, 1, 0, "b"), seen(api.TrDone, 6))
 }
 
-// until lets calm rounds go by till the client stands there.
-func (x *world) until(place int, down ...int) {
+// until lets calm rounds go by till the first client stands there; behind each of them that is done.
+func (x *world) until(place int, each func()) {
 	x.t.Helper()
 	for range x.bound() {
 		if at, _, _ := x.clients[0].State(); at == place {
 			return
 		}
-		x.calmRound(down...)
+		x.calmRound()
+		each()
 	}
 	x.t.Fatalf("it never stands at %d", place)
 }
+
+func nothing() {}
 
 func TestExampleOfABreak(t *testing.T) {
 	for broken := range 3 {
 		for bytes := range 60 {
 			x := newWorld(t, api.Config{Nodes: 3, Parts: 1, Copies: 3, Clients: []api.Program{{Ops: []api.Op{send(0, "a"), commits}}}})
-			x.until(1)
+			x.until(1, nothing)
 			x.do(api.Event{Kind: api.ECrash, A: broken, B: 3 * bytes})
 			x.finish(broken)
 			x.wantSeen(sent(0, 0, 0, "a"), seen(api.TrCommit, 1), seen(api.TrDone, 2))
@@ -118,7 +122,7 @@ func TestExampleOfABreak(t *testing.T) {
 
 func TestExampleOfBeginningAnew(t *testing.T) {
 	x := single(t, 1, send(0, "a"), commits)
-	x.until(1)
+	x.until(1, nothing)
 	x.way.Drop(0) // the MEnd
 	x.do(api.Event{Kind: api.EAgain})
 	x.wantSeen(sent(0, 0, 0, "a"), failed(1, api.ErrTxn), sent(0, 0, 2, "a"), seen(api.TrCommit, 1), seen(api.TrDone, 2))
@@ -133,7 +137,7 @@ func TestExampleOfBeginningAnew(t *testing.T) {
 func TestExampleOfALostAnswer(t *testing.T) {
 	for lost := range 5 {
 		x := single(t, 1, send(0, "a"), commits)
-		x.until(1)
+		x.until(1, nothing)
 		for count := 0; count < lost; {
 			x.calmRound()
 			for i := range x.way.Count() {
@@ -172,4 +176,38 @@ func TestExampleOfOneThatIsDown(t *testing.T) {
 			x.laws()
 		}
 	}
+}
+
+// TestBesideOneThatLeadsNoMore: a coordinator that is cut off, and doesn't know that it leads no more, is asked how far the group has come. What was copied since isn't copied again.
+func TestBesideOneThatLeadsNoMore(t *testing.T) {
+	copies := []api.Op{copyTo(0, 1, 1), copyTo(0, 1, 1), copyTo(0, 1, 1)}
+	writes := []api.Op{send(0, "a"), send(0, "b"), send(0, "c"), send(0, "d"), commits}
+	x := newWorld(t, api.Config{Nodes: 3, Parts: 2, Copies: 3, Clients: []api.Program{{Ops: copies}, {Group: 1, Ops: writes}}})
+	x.asleep[3] = true
+	for _, _, ended := x.clients[1].State(); !ended; _, _, ended = x.clients[1].State() {
+		x.calmRound()
+	}
+	clear(x.asleep)
+	x.until(1, nothing)
+	old := slices.IndexFunc(x.nodes, func(n *node.Node) bool { _, _, leads := n.Part(3); return leads })
+	for id := range x.nodes {
+		x.way.Cut(old, id)
+	}
+	// By its clock nothing has happened, and the client can't reach it.
+	x.asleep[old] = true
+	x.until(2, func() { x.lose(3, old) })
+	x.do(api.Event{Kind: api.EAgain})
+	if x.clients[0].leaders[3] != old {
+		t.Fatalf("it isn't the one that leads no more, %d, that is asked first", old)
+	}
+	for range 60 {
+		x.calmRound()
+	}
+	clear(x.asleep)
+	x.calm()
+	x.finish()
+	x.rest()
+	x.laws()
+	x.wantCopied(0, 1)
+	x.wantValues(1, "a", "b", "c")
 }

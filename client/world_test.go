@@ -19,7 +19,7 @@ type world struct {
 	clients []*Client
 	watches []*watch
 	way     *net.Net
-	asleep  []bool // the clients whose clocks stand still, and who hear nothing
+	asleep  []bool // the nodes, and behind them clients, whose clocks stand still; and those clients hear nothing
 	round   int
 	tally   map[string]int // how often something has happened
 }
@@ -31,6 +31,7 @@ func newWorld(t *testing.T, c api.Config) *world {
 		x.disks = append(x.disks, disk.New())
 		x.nodes = append(x.nodes, nil)
 	}
+	x.asleep = make([]bool, c.Nodes+len(c.Clients))
 	for id := range c.Nodes {
 		x.open(id)
 	}
@@ -40,7 +41,6 @@ func newWorld(t *testing.T, c api.Config) *world {
 		w.tally = x.tally
 		x.clients = append(x.clients, p)
 		x.watches = append(x.watches, w)
-		x.asleep = append(x.asleep, false)
 	}
 	return x
 }
@@ -98,7 +98,7 @@ func (x *world) deliver(i int) {
 		x.t.Fatalf("Decode(%d) = %d", p.Body, e)
 	}
 	if number := p.To - len(x.nodes); number >= 0 {
-		if !x.asleep[number] {
+		if !x.asleep[p.To] {
 			x.send(x.watches[number].handle(m))
 		}
 	} else if n := x.nodes[p.To]; n != nil {
@@ -109,12 +109,23 @@ func (x *world) deliver(i int) {
 // tick lets the clock of a node, or a client, go on.
 func (x *world) tick(i int, draw uint64) {
 	x.t.Helper()
+	if x.asleep[i] {
+		return
+	}
 	if number := i - len(x.nodes); number >= 0 {
-		if !x.asleep[number] {
-			x.send(x.watches[number].tick())
-		}
+		x.send(x.watches[number].tick())
 	} else if n := x.nodes[i]; n != nil {
 		x.did(i, n.Tick(draw))
+	}
+}
+
+// lose loses all that is under way between two.
+func (x *world) lose(a, b int) {
+	x.t.Helper()
+	for i := x.way.Count() - 1; i >= 0; i-- {
+		if p, _ := x.way.Peek(i); p.From == a && p.To == b || p.From == b && p.To == a {
+			x.way.Drop(i)
+		}
 	}
 }
 

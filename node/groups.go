@@ -65,9 +65,15 @@ func (n *Node) join(m api.Msg) {
 	n.answer(k, m, api.Msg{Gen: gen, Members: members})
 }
 
+// offset tells how far a group has come. Nothing is laid for that, so that a coordinator that has been replaced, and doesn't know it, would tell what was so long ago; and what was copied since would be copied again from there.
 func (n *Node) offset(m api.Msg) {
+	k := n.grPart()
 	at, e := n.groups.state.Offset(m.Group, m.Part)
-	n.answer(n.grPart(), m, api.Msg{E: e, Offset: at})
+	if e != api.OK {
+		n.refuse(k, m, e)
+		return
+	}
+	n.parts[k].waitTillSure(toldTo(m, api.Msg{Offset: at}))
 }
 
 // commit takes note of how far a group has come: at once, or when the producer's transaction commits.

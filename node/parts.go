@@ -12,12 +12,13 @@ type part struct {
 	log     *replica.Replica
 	version int      // which list of those in sync a leader goes by
 	waiting []answer // of a leader
+	tenure  tenure
 }
 
-// answer is what is to be sent when the high watermark has come to an offset.
+// answer is what is to be sent when the high watermark has come to an offset, and the node is known to have led when it had counted so many questions.
 type answer struct {
-	at  int
-	msg api.Msg
+	at, count int
+	msg       api.Msg
 }
 
 // gist is what answers to one sender differ by.
@@ -46,23 +47,28 @@ func (p *part) high() int {
 	return high
 }
 
-// wait keeps an answer till all that stands in the log now is committed. The same one isn't kept twice: who asks again while nothing goes on is answered once.
+// wait keeps an answer till all that stands in the log now is committed.
 func (p *part) wait(m api.Msg) {
-	same := func(a answer) bool { return gistOf(a.msg) == gistOf(m) }
+	p.keep(answer{at: p.end(), msg: m})
+}
+
+// keep keeps an answer till it may be sent. The same one isn't kept twice: who asks again while nothing goes on is answered once.
+func (p *part) keep(x answer) {
+	same := func(a answer) bool { return gistOf(a.msg) == gistOf(x.msg) }
 	if !slices.ContainsFunc(p.waiting, same) {
-		p.waiting = append(p.waiting, answer{p.end(), m})
+		p.waiting = append(p.waiting, x)
 	}
 }
 
 // release sends the answers for which all is committed that they rest on.
 func (n *Node) release() {
-	for _, p := range n.parts {
+	for k, p := range n.parts {
 		if len(p.waiting) == 0 {
 			continue
 		}
-		high := p.high()
+		high, count := p.high(), n.surelyLed(k)
 		p.waiting = slices.DeleteFunc(p.waiting, func(a answer) bool {
-			if a.at > high {
+			if a.at > high || a.count > count {
 				return false
 			}
 			n.send(a.msg)
@@ -98,6 +104,7 @@ func (n *Node) assign() {
 			// Only a new list tells what has become of those that were asked for.
 			p.log.Sync(x.Epoch, x.Isr)
 			p.version = x.Version
+			p.tenure.hoped = [api.MaxNodes]bool{}
 		}
 	}
 }
@@ -106,7 +113,7 @@ func (n *Node) assign() {
 func (n *Node) lead(k int, x api.Part) {
 	p := n.parts[k]
 	p.log.Lead(x.Epoch, x.Isr)
-	p.version, p.waiting = x.Version, nil
+	p.version, p.waiting, p.tenure = x.Version, nil, tenure{}
 	switch k {
 	case n.txPart():
 		n.txns.begin(p.log.Log())
@@ -119,7 +126,7 @@ func (n *Node) lead(k int, x api.Part) {
 func (n *Node) follow(k, epoch int) {
 	p := n.parts[k]
 	p.log.Follow(epoch)
-	p.waiting = nil
+	p.waiting, p.tenure = nil, tenure{}
 	switch k {
 	case n.txPart():
 		n.txns.clear()
@@ -172,6 +179,7 @@ func (n *Node) askForSync(k int) {
 	}
 	// Ahead of the asking: they may be in sync by the time that anybody hears of it.
 	p.log.Asked(list)
+	p.tenure.hope(list)
 	n.ask(api.Cmd{Kind: api.CIsr, Node: n.id, Part: k, Epoch: x.Epoch, Version: x.Version, List: list})
 }
 
@@ -181,7 +189,7 @@ func (n *Node) fetch(k int) {
 	x, _ := n.image.Part(k)
 	stands := slices.Contains(x.Replicas, n.id) || slices.Contains(x.Target, n.id)
 	if follows && stands && x.Leader != nobody {
-		n.send(api.Msg{Kind: api.MFetch, To: x.Leader, Fetch: q})
+		n.send(api.Msg{Kind: api.MFetch, To: x.Leader, Corr: n.parts[k].tenure.count, Fetch: q})
 	}
 }
 
@@ -191,12 +199,14 @@ func (n *Node) takeFetch(m api.Msg) {
 	if !n.isPart(q.Part) {
 		return
 	}
-	if a := n.parts[q.Part].log.Fetch(q); a.E == api.OK {
-		n.send(api.Msg{Kind: api.MFetched, To: m.From, Fetched: a})
+	p := n.parts[q.Part]
+	if a := p.log.Fetch(q); a.E == api.OK {
+		p.tenure.hear(q.Node, m.Corr)
+		n.send(api.Msg{Kind: api.MFetched, To: m.From, Corr: p.tenure.count, Fetched: a})
 	}
 }
 
-// takeFetched takes a leader's answer; if there was something in it, there may be more.
+// takeFetched takes a leader's answer; if there was something in it, there may be more, and if the leader wants to know whether it leads still, it is told so.
 func (n *Node) takeFetched(m api.Msg) {
 	k := m.Fetched.Part
 	if !n.isPart(k) {
@@ -204,8 +214,9 @@ func (n *Node) takeFetched(m api.Msg) {
 	}
 	p := n.parts[k]
 	end := p.end()
+	asked := p.learnsCount(m)
 	p.log.Accept(m.Fetched)
-	if n.active && p.end() != end {
+	if n.active && (asked || p.end() != end) {
 		n.fetch(k)
 	}
 }
