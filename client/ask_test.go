@@ -78,6 +78,7 @@ func TestNoAnswers(t *testing.T) {
 		}
 		x.told(api.Msg{Pid: 7, Epoch: 4})
 	}
+	x.ticks(1)
 	x.sees(sent(0, 2, 0, "a"), seen(api.TrCommit, 1), seen(api.TrDone, 2))
 	x.stands(2, 0, true)
 }

@@ -370,7 +370,7 @@ func TestCopyWithinTransaction(t *testing.T) {
 	x := writer(t, send(0, "a"), copyTo(2, 1, 5), copyTo(2, 1, 0), send(0, "b"), commits)
 	x.begins()
 	x.sends(4, 0, 0, "a")
-	x.ticks(1)
+	x.ticks(2)
 	x.asks(produce(0, within(7, 4, 1, "b")))
 	x.told(api.Msg{Offset: 1})
 	x.asks(end(7, 4, true))
@@ -401,7 +401,7 @@ func TestCopyAgain(t *testing.T) {
 				x.asks(join)
 				x.sees(trace...)
 			case step == 6: // it has ended
-				x.ticks(1)
+				x.ticks(2)
 				x.sees(append(trace, seen(api.TrCommit, 0), seen(api.TrAbort, 1), seen(api.TrDone, 2))...)
 			case committed:
 				x.asks(initiate)

@@ -25,12 +25,34 @@ func TestTransactions(t *testing.T) {
 	x.sends(6, 3, 5, "d")
 	x.asks(end(7, 6, false))
 	x.told(api.Msg{Epoch: 9}) // whatever is told
+	x.ticks(1)
 	x.sends(9, 0, 7, "e")
 	x.asks(end(7, 9, true))
 	x.told(api.Msg{Epoch: 11})
 	x.ends()
 	x.sees(sent(0, 2, 10, "a"), sent(1, 2, 12, ""), sent(2, 0, 0, "b"), sent(3, 2, 13, "a"), seen(api.TrCommit, 4),
 		sent(5, 2, 20, "c"), sent(6, 3, 5, "d"), seen(api.TrAbort, 7), seen(api.TrCommit, 8), sent(9, 0, 7, "e"), seen(api.TrCommit, 10), seen(api.TrDone, 11))
+}
+
+// TestBetween: an operation begins by a tick, so that between two of them nothing is under way; who begins anew there has the transaction aborted.
+func TestBetween(t *testing.T) {
+	x := writer(t, send(2, "a"), commits)
+	x.begins()
+	x.sends(4, 2, 5, "a")
+	x.silent()
+	x.stands(1, 0, false)
+	x.again()
+	x.asks(initiate)
+	x.told(api.Msg{Pid: 7, Epoch: 6, Offset: 4, High: 7})
+	x.sees(sent(0, 2, 5, "a"), failed(1, api.ErrTxn))
+	x.sends(6, 2, 7, "a")
+	x.silent()
+	x.asks(end(7, 6, true))
+	x.told(api.Msg{Epoch: 8})
+	x.silent()
+	x.stands(2, 1, false)
+	x.ticks(1)
+	x.sees(sent(0, 2, 5, "a"), failed(1, api.ErrTxn), sent(0, 2, 7, "a"), seen(api.TrCommit, 1), seen(api.TrDone, 2))
 }
 
 // TestManyInOnePartition: MAdd stands ahead of the first batch alone, and Seq rises.
@@ -65,6 +87,7 @@ func TestAgainWithoutTransaction(t *testing.T) {
 	x.sends(4, 2, 0, "a")
 	x.asks(end(7, 4, true))
 	x.told(api.Msg{Epoch: 6})
+	x.ticks(1)
 	x.again()
 	x.stands(4, 3, false)
 	x.asks(initiate)
@@ -167,14 +190,14 @@ func TestAgainFarBehind(t *testing.T) {
 	x.begins()
 	x.sends(4, 2, 5, "a")
 	x.sends(4, 3, 6, "b")
-	x.ticks(1)
+	x.ticks(2)
 	x.asks(produce(2, within(7, 4, 1, "c")))
 	x.again()
 	x.asks(initiate)
 	x.told(api.Msg{Pid: 7, Epoch: 6, Offset: 4, High: 7})
 	x.sends(6, 2, 8, "a")
 	x.sends(6, 3, 9, "b")
-	x.ticks(1)
+	x.ticks(2)
 	x.asks(produce(2, within(7, 6, 1, "c")))
 	x.told(api.Msg{Offset: 10})
 	x.asks(end(7, 6, false))
@@ -189,6 +212,7 @@ func TestAgainAtTheEnd(t *testing.T) {
 	x := writer(t, send(2, "a"), copyTo(0, 1, 5))
 	x.begins()
 	x.sends(4, 2, 5, "a")
+	x.ticks(1)
 	x.stands(2, 0, false)
 	x.again()
 	x.asks(initiate)
