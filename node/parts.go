@@ -13,6 +13,7 @@ type part struct {
 	version int      // which list of those in sync a leader goes by
 	waiting []answer // of a leader
 	tenure  tenure
+	pace    pace
 }
 
 // answer is what is to be sent when the high watermark has come to an offset, and the node is known to have led when it had counted so many questions.
@@ -113,7 +114,7 @@ func (n *Node) assign() {
 func (n *Node) lead(k int, x api.Part) {
 	p := n.parts[k]
 	p.log.Lead(x.Epoch, x.Isr)
-	p.version, p.waiting, p.tenure = x.Version, nil, tenure{}
+	p.version, p.waiting, p.tenure, p.pace = x.Version, nil, tenure{}, newPace(p.end())
 	switch k {
 	case n.txPart():
 		n.txns.begin(p.log.Log())
@@ -157,6 +158,7 @@ func (n *Node) lay(k int, b api.Batch) (int, api.Errno) {
 func (n *Node) tickParts() {
 	for k, p := range n.parts {
 		p.log.Tick()
+		p.pace.tick(p.end())
 		if n.active {
 			n.askForSync(k)
 			n.fetch(k)
@@ -164,23 +166,38 @@ func (n *Node) tickParts() {
 	}
 }
 
-// askForSync asks that those be in sync that should be. Who isn't there would be refused.
+// askForSync asks that those be in sync that should be.
 func (n *Node) askForSync(k int) {
 	p := n.parts[k]
+	if !p.leads() {
+		return
+	}
 	x, _ := n.image.Part(k)
-	stand := slices.Concat(x.Replicas, x.Target)
-	stand = slices.DeleteFunc(stand, func(i int) bool {
-		there, _, _ := n.image.Node(i)
-		return !there && !slices.Contains(x.Isr, i)
-	})
-	list, differs := p.log.Want(stand)
-	if !differs {
+	c := p.crewOf(n.mayBeInSync(x), x.Isr)
+	if len(c.near) > 0 {
+		// What is committed waits for them, so that they come to it, however fast the log grows.
+		p.askedFor(c.near)
+	}
+	if slices.Equal(c.list, x.Isr) && !p.tenure.hopesBeside(slices.Concat(c.list, c.near)) {
 		return
 	}
 	// Ahead of the asking: they may be in sync by the time that anybody hears of it.
+	p.askedFor(c.list)
+	n.ask(api.Cmd{Kind: api.CIsr, Node: n.id, Part: k, Epoch: x.Epoch, Version: x.Version, List: c.list})
+}
+
+// mayBeInSync are the nodes that may be asked for. Who isn't there would be refused.
+func (n *Node) mayBeInSync(x api.Part) []int {
+	return slices.DeleteFunc(slices.Concat(x.Replicas, x.Target), func(i int) bool {
+		there, _, _ := n.image.Node(i)
+		return !there && !slices.Contains(x.Isr, i)
+	})
+}
+
+// askedFor lets what is committed wait for these, too.
+func (p *part) askedFor(list []int) {
 	p.log.Asked(list)
 	p.tenure.hope(list)
-	n.ask(api.Cmd{Kind: api.CIsr, Node: n.id, Part: k, Epoch: x.Epoch, Version: x.Version, List: list})
 }
 
 // fetch asks a partition's leader for what comes next, if the partition stands here, or shall.
@@ -202,6 +219,9 @@ func (n *Node) takeFetch(m api.Msg) {
 	p := n.parts[q.Part]
 	if a := p.log.Fetch(q); a.E == api.OK {
 		p.tenure.hear(q.Node, m.Corr)
+		if !a.Diverges {
+			p.pace.hear(q.Node, q.Offset)
+		}
 		n.send(api.Msg{Kind: api.MFetched, To: m.From, Corr: p.tenure.count, Fetched: a})
 	}
 }

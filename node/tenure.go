@@ -21,6 +21,16 @@ func (t *tenure) hope(list []int) {
 	}
 }
 
+// hopesBeside tells whether anybody was asked for but these.
+func (t *tenure) hopesBeside(list []int) bool {
+	for id, hoped := range t.hoped {
+		if hoped && !slices.Contains(list, id) {
+			return true
+		}
+	}
+	return false
+}
+
 // hear takes note of the count that a follower tells back.
 func (t *tenure) hear(id, count int) {
 	t.heard[id] = max(t.heard[id], min(count, t.count))
