@@ -697,6 +697,47 @@ func TestWaysOfClient(t *testing.T) {
 	}
 }
 
+// TestWaysOfCluster: who takes messages, a node or a client, is behind an interface: two types have its methods, and it is called by way of it.
+func TestWaysOfCluster(t *testing.T) {
+	parties, calls := 0, 0
+	behind := false
+	for _, s := range sources(t) {
+		if s.layer != "cluster" {
+			continue
+		}
+		ast.Inspect(s.tree, func(n ast.Node) bool {
+			switch x := n.(type) {
+			case *ast.TypeSpec:
+				_, ok := x.Type.(*ast.InterfaceType)
+				behind = behind || ok && x.Name.Name == "party"
+			case *ast.FuncDecl:
+				if x.Recv != nil && x.Name.Name == "handle" {
+					parties++
+				}
+				if x.Name.Name == "deliver" {
+					calls += callsOf(x, "handle")
+				}
+			}
+			return true
+		})
+	}
+	if !behind || parties != 2 || calls != 1 {
+		t.Errorf("behind an interface: %v, types: %d, called: %d", behind, parties, calls)
+	}
+}
+
+// callsOf is how often a function calls one of that name.
+func callsOf(f *ast.FuncDecl, name string) int {
+	count := 0
+	ast.Inspect(f.Body, func(n ast.Node) bool {
+		if x, ok := n.(*ast.CallExpr); ok && nameOf(x.Fun) == name {
+			count++
+		}
+		return true
+	})
+	return count
+}
+
 func isFunction(e ast.Expr) bool {
 	_, ok := e.(*ast.FuncType)
 	return ok
