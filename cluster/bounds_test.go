@@ -85,7 +85,7 @@ func (r *run) wantStands(k, from int) {
 // TestMoved: an EMove, with 800 calm rounds ahead and some behind, is done.
 func TestMoved(t *testing.T) {
 	t.Parallel()
-	drawnRuns(t, 25, 1, anySettings, func(r *run, draw *rand.Rand) {
+	drawnRuns(t, 15, 1, anySettings, func(r *run, draw *rand.Rand) {
 		r.trouble(draw, draw.Intn(1000))
 		for range 2 {
 			r.calm(draw.Intn(100))
@@ -156,7 +156,7 @@ func (r *run) pauses(count int) {
 func TestOneDown(t *testing.T) {
 	t.Parallel()
 	late := 0
-	drawnRuns(t, 60, 3, func(draw *rand.Rand, nodes int) api.Config {
+	drawnRuns(t, 40, 3, func(draw *rand.Rand, nodes int) api.Config {
 		c := anySettings(draw, nodes)
 		c.Copies = nodes
 		if draw.Intn(3) == 0 {
@@ -187,7 +187,7 @@ func TestOneDown(t *testing.T) {
 			t.Errorf("the node %d is up", id)
 		}
 	})
-	if late < 25 {
+	if late < 15 {
 		t.Errorf("%d programs went on", late)
 	}
 }

@@ -299,9 +299,9 @@ func TestAgain(t *testing.T) {
 // TestMove: a data partition moves to as many nodes as each stands on, from one of them on; all of that is counted round.
 func TestMove(t *testing.T) {
 	for _, m := range []struct{ a, b, part, from int }{
-		{0, 1, 0, 1}, {1, 0, 1, 0}, {1, 2, 1, 2}, {2, 3, 0, 3}, {3, -1, 1, 3}, {-1, 4, 1, 0}, {-2, 1<<63 - 1, 0, 3}, {0, -1 << 63, 0, 0},
+		{0, 1, 0, 1}, {1, 0, 1, 0}, {1, 2, 1, 2}, {2, 4, 0, 4}, {3, -1, 1, 4}, {-1, 5, 1, 0}, {-2, 1<<63 - 1, 0, 2}, {0, -1 << 63, 0, 2},
 	} {
-		r := newRun(t, settings(4, 2, []api.Op{send(m.part, "a"), send(1-m.part, "b"), commits}))
+		r := newRun(t, settings(5, 2, []api.Op{send(m.part, "a"), send(1-m.part, "b"), commits}))
 		r.c.Copies = 2
 		r.x, _ = New(r.c)
 		r.finish()

@@ -62,12 +62,12 @@ func TestExampleOfReadingNothing(t *testing.T) {
 func TestExampleOfABreak(t *testing.T) {
 	t.Parallel()
 	broke := 0
-	for bytes := range 150 {
+	for i := range 50 {
 		r := newRun(t, settings(3, 1, []api.Op{send(0, "a"), commits}))
 		r.until(api.TrSent, 1)
 		leader := r.leader(0)
 		r.down = []int{leader}
-		r.do(api.Event{Kind: api.ECrash, A: leader, B: bytes})
+		r.do(api.Event{Kind: api.ECrash, A: leader, B: 3 * i})
 		r.wantTrace(sent(0, 0, 0, "a"), sees(api.TrCommit, 1), sees(api.TrDone, 2))
 		r.wantValues(0, "a")
 		if !r.x.Up(leader) {
@@ -77,7 +77,7 @@ func TestExampleOfABreak(t *testing.T) {
 			}
 		}
 	}
-	if broke < 30 {
+	if broke < 12 {
 		t.Errorf("the disk broke %d times", broke)
 	}
 	// Ahead of the record's being laid.

@@ -159,17 +159,17 @@ func (r *run) calmRounds(count int) {
 	r.lookAll()
 }
 
-// finish lets calm rounds go by till all programs have ended: P10. It answers how many.
-func (r *run) finish() int {
+// finish lets calm rounds go by till all programs have ended: P10.
+func (r *run) finish() {
 	r.t.Helper()
-	rounds := 0
-	for ; !r.x.Done(); rounds++ {
-		if rounds == boundOf(r.c) {
-			r.t.Fatalf("not all programs have ended within %d rounds: %+v", rounds, r.x.Trace())
-		}
-		r.calmRounds(1)
+	for left := boundOf(r.c); left > 0 && !r.x.Done(); {
+		few := min(left, 10)
+		r.calmRounds(few)
+		left -= few
 	}
-	return rounds
+	if !r.x.Done() {
+		r.t.Fatalf("not all programs have ended within %d rounds: %+v", boundOf(r.c), r.x.Trace())
+	}
 }
 
 // until lets calm rounds go on till the trace has so many of a kind, and not an event more.
