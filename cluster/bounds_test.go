@@ -139,12 +139,12 @@ func TestHalfDown(t *testing.T) {
 	})
 }
 
-// pauses lets calm rounds go by in which the clients' clocks stand still.
-func (r *run) pauses(count int) {
+// pauses lets calm rounds go by in which the clocks of all clients but the first ones, so many, stand still.
+func (r *run) pauses(count, awake int) {
 	r.t.Helper()
 	for range count {
 		for e := range r.round {
-			if e.Kind != api.ETick || e.A < r.c.Nodes {
+			if e.Kind != api.ETick || e.A < r.c.Nodes+awake {
 				r.x.Do(e)
 			}
 		}
@@ -167,7 +167,7 @@ func TestOneDown(t *testing.T) {
 		r.trouble(draw, draw.Intn(1500))
 		r.calm(draw.Intn(100))
 		if draw.Intn(3) > 0 {
-			r.pauses(400) // so that the programs go on behind it
+			r.pauses(400, 0) // so that the programs go on behind it
 		} else {
 			r.calmRounds(400)
 		}
@@ -189,5 +189,34 @@ func TestOneDown(t *testing.T) {
 	})
 	if late < 15 {
 		t.Errorf("%d programs went on", late)
+	}
+}
+
+// TestOneDownAmidWrites: the leader goes down for ever while many write to it.
+func TestOneDownAmidWrites(t *testing.T) {
+	t.Parallel()
+	for rounds := 4; rounds < 40; rounds += 2 {
+		var ops []api.Op
+		for i := range 20 {
+			ops = append(ops, send(0, string(rune('a'+i))))
+		}
+		r := newRun(t, settings(3, 1, append(ops, commits), append(ops, commits), append(ops, commits), append(ops, aborts)))
+		r.pauses(400, 0)
+		for awake := range 4 {
+			r.pauses(1, awake) // so that one or the other writes at any time
+		}
+		r.calmRounds(rounds)
+		if r.x.Done() {
+			t.Errorf("all have ended within %d rounds", rounds)
+		}
+		for k := range 3 {
+			if p := r.part(k); len(p.Isr) != 3 {
+				t.Errorf("behind %d rounds there are in sync: %+v", rounds, p)
+			}
+		}
+		r.breaks(r.leader(0))
+		r.riseAll(0)
+		r.finish()
+		r.laws()
 	}
 }

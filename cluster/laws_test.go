@@ -82,6 +82,7 @@ func (r *run) laws() {
 	}
 	r.wantThere(all)
 	r.wantCopied()
+	r.wantAllRead(all)
 }
 
 // at is the place of a partition's record at an offset; -1: there is none.
@@ -135,12 +136,23 @@ func (r *run) wantRead(number int, all [][]model.Record) {
 	}
 }
 
+// come are the groups' records that are committed, of how far they have come.
+func (r *run) come() []api.GrRec {
+	var list []api.GrRec
+	for _, m := range r.committed(r.c.Parts + 1) {
+		if g, e := group.Decode([]byte(m.Value)); e == api.OK && g.Kind == api.GOff {
+			list = append(list, g)
+		}
+	}
+	return list
+}
+
 // wantSought is P8: where a client seeks, its group has come to.
 func (r *run) wantSought(number int, p api.Program) {
 	r.t.Helper()
 	come := map[[2]int]struct{}{}
-	for _, m := range r.committed(r.c.Parts + 1) {
-		if g, e := group.Decode([]byte(m.Value)); e == api.OK && g.Kind == api.GOff && g.Group == p.Group {
+	for _, g := range r.come() {
+		if g.Group == p.Group {
 			come[[2]int{g.Part, g.Offset}] = struct{}{}
 		}
 	}
@@ -214,6 +226,34 @@ func (r *run) wantCopied() {
 				r.t.Errorf("group %d: %+v stands at %d of %d, ahead of what it is behind", w.group, s, place, w.to)
 			}
 			last = place
+		}
+	}
+}
+
+// wantAllRead: where a group has come to, all that is ahead of it was read by an OPoll, or copied.
+func (r *run) wantAllRead(all [][]model.Record) {
+	r.t.Helper()
+	last := map[[2]int]int{} // of a group and a partition, how far it has come
+	for _, g := range r.come() {
+		last[[2]int{g.Group, g.Part}] = g.Offset
+	}
+	been := map[[3]int]struct{}{} // of a group and a partition, the offsets
+	for number, p := range r.c.Clients {
+		list := slices.DeleteFunc(r.of(number), func(s api.Seen) bool { return s.Kind != api.TrRead || p.Ops[s.Op].Kind != api.OPoll })
+		for _, d := range deedsOf(p, r.of(number)) {
+			if d.end == api.TrCommit {
+				list = append(list, d.copied...)
+			}
+		}
+		for _, s := range list {
+			been[[3]int{p.Group, s.Part, s.Offset}] = struct{}{}
+		}
+	}
+	for key, offset := range last {
+		for _, m := range all[key[1]] {
+			if _, ok := been[[3]int{key[0], key[1], m.Offset}]; !ok && m.Offset < offset {
+				r.t.Errorf("group %d has come to %d of the partition %d, but %+v was read by none", key[0], offset, key[1], m)
+			}
 		}
 	}
 }
