@@ -1,6 +1,7 @@
 package client
 
 import (
+	"slices"
 	"testing"
 
 	"penstock/api"
@@ -251,17 +252,41 @@ func (x *world) finish(down ...int) {
 func (x *world) patience() int {
 	longest := 0
 	for _, p := range x.config.Clients {
-		longest = max(longest, len(p.Ops))
+		rounds := 0
+		for _, o := range p.Ops {
+			rounds += 10
+			if o.Kind == api.OPoll {
+				rounds += 90
+			}
+		}
+		longest = max(longest, rounds)
 	}
-	return 150 + 10*longest
+	return 150 + longest
 }
 
 // rest lets rounds go by in which what was left open is aborted.
 func (x *world) rest(down ...int) {
 	x.t.Helper()
-	for range 100 + x.patience() {
+	for range 100 {
 		x.calmRound(down...)
 	}
+	for left := x.patience(); left > 0 && x.isOpen(); left-- {
+		x.calmRound(down...)
+	}
+}
+
+// isOpen tells whether a transaction is open in a data partition.
+func (x *world) isOpen() bool {
+	for k := range x.config.Parts {
+		log := x.log(k)
+		for i, b := range log {
+			marked := func(m api.Batch) bool { return m.Control && m.Pid == b.Pid }
+			if b.Txn && !b.Control && !slices.ContainsFunc(log[i:], marked) {
+				return true
+			}
+		}
+	}
+	return false
 }
 
 // log is a partition's log, up to the greatest high watermark.

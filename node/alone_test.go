@@ -295,21 +295,39 @@ func TestBegunAnew(t *testing.T) {
 	}
 }
 
-// TestOpenForLong: a transaction is aborted behind 100 ticks, and 10 more for each operation of the longest program, and not ahead of that.
-func TestOpenForLong(t *testing.T) {
-	for _, ops := range []int{0, 1, 3, 64} {
-		c := one(1, 1)
-		c.Clients = []api.Program{{Ops: make([]api.Op, ops/2)}, {Ops: make([]api.Op, ops)}, {}}
-		for i := range c.Clients {
-			for j := range c.Clients[i].Ops {
-				c.Clients[i].Ops[j].Kind = api.OCommit
-			}
+// program is one of so many OPolls, and other operations.
+func program(polls, others int) api.Program {
+	var p api.Program
+	for i := range polls + others {
+		p.Ops = append(p.Ops, api.Op{Kind: api.OCommit})
+		if i < polls {
+			p.Ops[i].Kind = api.OPoll
 		}
+	}
+	return p
+}
+
+// TestOpenForLong: a transaction is aborted behind 100 ticks, and 10 more for each operation of the slowest program, 100 for each OPoll, and not ahead of that.
+func TestOpenForLong(t *testing.T) {
+	for _, x := range []struct {
+		programs []api.Program
+		least    int
+	}{
+		{nil, 100},
+		{[]api.Program{program(0, 0)}, 100},
+		{[]api.Program{program(0, 1), program(0, 3), program(0, 0)}, 130},
+		{[]api.Program{program(0, 64)}, 740},
+		{[]api.Program{program(1, 2), program(0, 4)}, 220},
+		{[]api.Program{program(2, 0), program(0, 30)}, 400},
+		{[]api.Program{program(0, 1), program(63, 1)}, 6410},
+	} {
+		c := one(1, 1)
+		c.Clients = x.programs
 		n := alone(t, c, disk.New())
 		asks(t, n, api.Msg{Kind: api.MInit, Tx: 0, Inc: 1})
 		ticks(t, n, 200)
 		asks(t, n, api.Msg{Kind: api.MAdd, Pid: 1, Offset: 0})
-		for i := range 100 + 10*ops {
+		for i := range x.least {
 			ticks(t, n, 1)
 			// What is asked meanwhile doesn't make it younger, not even where it adds a partition.
 			wantErrno(t, "MAdd", n, api.Msg{Kind: api.MAdd, Pid: 1, Offset: min(i/50, 2)}, api.OK)

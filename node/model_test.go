@@ -28,7 +28,11 @@ func newAlone0(t *testing.T, c api.Config) *alone0 {
 	t.Helper()
 	x := &alone0{t: t, tx: txn.New(), gr: group.New(), limit: 100, open: map[int]int{}, silent: map[[2]int]int{}}
 	for _, p := range c.Clients {
-		x.limit = max(x.limit, 100+10*len(p.Ops))
+		limit := 100
+		for _, o := range p.Ops {
+			limit += map[bool]int{true: 100, false: 10}[o.Kind == api.OPoll]
+		}
+		x.limit = max(x.limit, limit)
 	}
 	d := disk.New()
 	for k := range c.Parts + 2 {
@@ -261,6 +265,9 @@ func TestAgainstModel(t *testing.T) {
 		c.Clients = []api.Program{{Ops: make([]api.Op, draw.Intn(3))}}
 		for i := range c.Clients[0].Ops {
 			c.Clients[0].Ops[i].Kind = api.OCommit
+			if seed%8 == 0 {
+				c.Clients[0].Ops[i].Kind = api.OPoll
+			}
 		}
 		d := disk.New()
 		n, x, epoch := alone(t, c, d), newAlone0(t, c), 1

@@ -9,9 +9,10 @@ import (
 )
 
 const (
-	openTicks   = 100 // for which a transaction may be open at least
-	openTicksOp = 10  // and for each operation of the longest program
-	markAgain   = 4   // ticks behind which a marker is sent again
+	openTicks     = 100 // for which a transaction may be open
+	openTicksOp   = 10  // and for each operation of a program
+	openTicksPoll = 100 // but for each OPoll: it asks one thing of each partition behind the other
+	markAgain     = 4   // ticks behind which a marker is sent again
 )
 
 // txns is what the leader of the transactions' partition knows. It decides by all that stands in its log; what it does beside its log rests on what is committed there.
@@ -36,13 +37,26 @@ type mark struct {
 	done  bool
 }
 
-// openFor is for how many ticks a transaction may be open.
+// openFor is for how many ticks a transaction may be open. It is as long as the slowest program may take where all goes well, so that this is never aborted over and over again, and goes on from its beginning for ever.
 func openFor(c api.Config) int {
-	longest := 0
+	slowest := 0
 	for _, p := range c.Clients {
-		longest = max(longest, len(p.Ops))
+		slowest = max(slowest, ticksOf(p))
 	}
-	return openTicks + openTicksOp*longest
+	return openTicks + slowest
+}
+
+// ticksOf is how many ticks a program may take.
+func ticksOf(p api.Program) int {
+	sum := 0
+	for _, o := range p.Ops {
+		if o.Kind == api.OPoll {
+			sum += openTicksPoll
+		} else {
+			sum += openTicksOp
+		}
+	}
+	return sum
 }
 
 // newTxns knows nothing; it is to begin.
