@@ -2,6 +2,7 @@ package cluster
 
 import (
 	"math/rand"
+	"slices"
 	"testing"
 
 	"penstock/api"
@@ -34,13 +35,38 @@ func TestLaws(t *testing.T) {
 	}
 }
 
-// TestBusyLaws: where many write at a time.
+// TestBusyLaws: where many write at a time, and where programs are as long as may be.
 func TestBusyLaws(t *testing.T) {
 	t.Parallel()
-	drawnRuns(t, 10, 1, busySettings, func(r *run, draw *rand.Rand) {
-		r.trouble(draw, 1000+draw.Intn(4000))
-		r.calm(draw.Intn(100))
+	for _, settings := range []func(*rand.Rand, int) api.Config{busySettings, fullSettings} {
+		drawnRuns(t, 10, 1, settings, func(r *run, draw *rand.Rand) {
+			r.trouble(draw, draw.Intn(3000))
+			r.calm(draw.Intn(100))
+			r.finish()
+			r.laws()
+		})
+	}
+}
+
+// TestLongTransactions: where all goes well no transaction is aborted, however long its operations take.
+func TestLongTransactions(t *testing.T) {
+	t.Parallel()
+	for nodes := 1; nodes <= api.MaxNodes; nodes += 2 {
+		polls := slices.Repeat([]api.Op{poll(16)}, api.MaxOps-2)
+		var sends []api.Op
+		for i := range api.MaxOps - 2 {
+			sends = append(sends, send(i%4, string(rune('b'+i))))
+		}
+		c := settings(nodes, 4, slices.Concat([]api.Op{send(0, "a")}, polls, []api.Op{commits}), append(sends, aborts), polls)
+		for group := range c.Clients {
+			c.Clients[group].Group = group
+		}
+		r := newRun(t, c)
 		r.finish()
 		r.laws()
-	})
+		if list := r.x.Trace(); countOf(list, api.TrFailed) > 0 || countOf(list, api.TrCommit) != 1 || countOf(list, api.TrAbort) != 1 {
+			t.Errorf("of %d nodes: %+v", nodes, list)
+		}
+		r.wantValues(0, "a")
+	}
 }

@@ -53,6 +53,23 @@ func busySettings(draw *rand.Rand, nodes int) api.Config {
 	return c
 }
 
+// fullSettings are those of so many nodes, and clients with the longest programs, some of them mostly of one kind.
+func fullSettings(draw *rand.Rand, nodes int) api.Config {
+	c := api.Config{Nodes: nodes, Parts: 1 + draw.Intn(api.MaxParts), Copies: 1 + draw.Intn(nodes)}
+	for number := range 1 + draw.Intn(api.MaxClients) {
+		p := programOf(draw, number, c.Parts, api.MaxOps)
+		p.Group = draw.Intn(2)
+		kind := draw.Intn(7)
+		for i := range p.Ops {
+			if api.OSend <= kind && kind <= api.OCopy && draw.Intn(3) > 0 {
+				p.Ops[i].Kind = kind
+			}
+		}
+		c.Clients = append(c.Clients, p)
+	}
+	return c
+}
+
 // anyEvent is an event as it may happen where most goes well.
 func anyEvent(draw *rand.Rand) api.Event {
 	a, b := draw.Intn(1<<20)-1<<10, draw.Intn(1<<20)-1<<10

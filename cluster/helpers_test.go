@@ -53,13 +53,20 @@ func boundOf(c api.Config) int {
 	return 600 + 60*opsOf(c)
 }
 
-// restOf is how many calm rounds it takes till what was left open is surely aborted, and done with.
+// restOf is by how many calm rounds what was left open is surely aborted, and done with.
 func restOf(c api.Config) int {
 	longest := 0
 	for _, p := range c.Clients {
-		longest = max(longest, len(p.Ops))
+		rounds := 0
+		for _, o := range p.Ops {
+			rounds += 10
+			if o.Kind == api.OPoll {
+				rounds += 90
+			}
+		}
+		longest = max(longest, rounds)
 	}
-	return 250 + 10*longest
+	return 300 + longest
 }
 
 // run is a cluster under way, and what was seen of it from outside.

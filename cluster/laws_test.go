@@ -66,14 +66,10 @@ func (r *run) committed(k int) []model.Record {
 // laws lets what is left open come to its end, and holds all that the clients have seen against what is committed: P5 to P9.
 func (r *run) laws() {
 	r.t.Helper()
-	r.calmRounds(restOf(r.c))
+	r.rest()
 	var all [][]model.Record
 	for k := range r.c.Parts {
-		log, high := r.log(k)
-		if stable := model.Stable(log, high); stable != high || endOf(log) != high {
-			r.t.Errorf("partition %d: stable up to %d, committed up to %d, and ends at %d", k, stable, high, endOf(log))
-		}
-		all = append(all, model.Committed(log, high))
+		all = append(all, r.committed(k))
 	}
 	for number, p := range r.c.Clients {
 		r.wantWhole(number, p, all)
@@ -83,6 +79,30 @@ func (r *run) laws() {
 	r.wantThere(all)
 	r.wantCopied()
 	r.wantAllRead(all)
+}
+
+// rest lets calm rounds go by till nothing is open any more, in no partition.
+func (r *run) rest() {
+	r.t.Helper()
+	r.calmRounds(100)
+	for left := restOf(r.c); left > 0 && len(r.unstable()) > 0; left -= 20 {
+		r.calmRounds(20)
+	}
+	for _, k := range r.unstable() {
+		log, high := r.log(k)
+		r.t.Errorf("partition %d: stable up to %d, committed up to %d, and ends at %d", k, model.Stable(log, high), high, endOf(log))
+	}
+}
+
+// unstable are the partitions in which something is open, or not committed.
+func (r *run) unstable() []int {
+	var list []int
+	for k := range r.c.Parts + 2 {
+		if log, high := r.log(k); model.Stable(log, high) != high || endOf(log) != high {
+			list = append(list, k)
+		}
+	}
+	return list
 }
 
 // at is the place of a partition's record at an offset; -1: there is none.
