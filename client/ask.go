@@ -77,10 +77,13 @@ func countsForNone(e api.Errno) bool {
 
 // take takes an answer without an error.
 func (c *Client) take(m api.Msg) {
-	u := c.under
+	u, k := c.under, c.partOf(c.under.msg)
 	c.under = request{}
 	if 0 <= m.From && m.From < c.nodes {
-		c.leaders[c.partOf(u.msg)] = m.From
+		c.leaders[k] = m.From
+	}
+	if k == c.grPart() {
+		c.quiet = 0
 	}
 	u.taker(c, u.msg, m)
 }

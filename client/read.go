@@ -8,6 +8,8 @@ import (
 	"penstock/group"
 )
 
+const maxQuiet = 20 // ticks behind which a client that is amid reading lets its group's coordinator hear of it; behind 40 it might be let go
+
 // reading is how far the client has come at an operation that reads.
 type reading struct {
 	joined bool
@@ -30,6 +32,9 @@ type spot struct {
 // poll reads the partitions that fall to the client, and says how far it has come.
 func (c *Client) poll() []api.Msg {
 	r := &c.reading
+	if out, asks := c.stay(); asks {
+		return out
+	}
 	if out, asks := c.readOn(); asks {
 		return out
 	}
@@ -52,6 +57,9 @@ func (c *Client) copy() []api.Msg {
 		c.fail(api.ErrState)
 		c.next()
 		return nil
+	}
+	if out, asks := c.stay(); asks {
+		return out
 	}
 	if out, asks := c.readOn(); asks {
 		return out
@@ -81,6 +89,25 @@ func (c *Client) takeWritten(asked, told api.Msg) {
 
 func (c *Client) takeTold(asked, told api.Msg) {
 	c.reading.told = true
+}
+
+// stay asks to be among the group's members still, if the coordinator hasn't heard of the client for a while: who reads for long would be let go, and what it has read would be for nothing, over and over again; false: it needn't.
+func (c *Client) stay() ([]api.Msg, bool) {
+	if !c.reading.joined || c.quiet < maxQuiet {
+		return nil, false
+	}
+	return c.ask(api.Msg{Kind: api.MJoin}, (*Client).takeStay), true
+}
+
+// takeStay learns whether the generation has passed. What OCopy has read another one may have copied by then; what OPoll has read is read.
+func (c *Client) takeStay(asked, told api.Msg) {
+	switch {
+	case told.Gen == c.reading.gen:
+	case c.op().Kind == api.OPoll:
+		c.takeRejoined(asked, told)
+	case !c.tx.open:
+		c.reading = reading{}
+	}
 }
 
 // readOn asks for what is to be read; false: there are as many records as there should be, or there is no more.
@@ -126,6 +153,7 @@ func (c *Client) takeRejoined(asked, told api.Msg) {
 			r.spots[k] = spot{}
 		}
 	}
+	r.turns = slices.DeleteFunc(r.turns, func(k int) bool { return !c.falls(told.Members, k) })
 }
 
 // falls tells whether a partition falls to the client.
