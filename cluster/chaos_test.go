@@ -70,3 +70,25 @@ func TestLongTransactions(t *testing.T) {
 		r.wantValues(0, "a")
 	}
 }
+
+// TestLongReads: who has to pass over a lot to find something to copy is among its group's members all the while, and copies it.
+func TestLongReads(t *testing.T) {
+	t.Parallel()
+	for nodes := 1; nodes <= api.MaxNodes; nodes += 2 {
+		var ops []api.Op
+		for range api.MaxOps - 3 {
+			ops = append(ops, send(0, "no"))
+		}
+		ops = append(ops, aborts, send(0, "yes"), commits)
+		r := newRun(t, settings(nodes, 2, ops, ops, ops, []api.Op{duplicate(0, 1, 2), duplicate(0, 1, 2)}))
+		r.pauses(1500, 3)
+		if n := countOf(r.x.Trace(), api.TrDone); n != 3 {
+			t.Errorf("of %d nodes: %d have ended", nodes, n)
+		}
+		r.finish()
+		if list := r.of(3); countOf(list, api.TrFailed) > 0 {
+			t.Errorf("of %d nodes: %+v", nodes, list)
+		}
+		r.wantValues(1, "yes", "yes", "yes")
+	}
+}
